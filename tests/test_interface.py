@@ -1,0 +1,47 @@
+"""Names and arguments are as the interface tells them, each defined in the file under which it stands."""
+
+import importlib
+import inspect
+import unittest
+
+FUNCTIONS = {
+    "exacts": {"Exact": "(top, bottom=1, *, sign=0, over=0, under=1)", "read_exact": "(text)"},
+    "errors": {
+        "NoText": "(row)", "TwoRoots": "(one, other)", "NotPlain": "(number)", "NeverDone": "(number)",
+        "NoDeed": "(thing)", "NoFit": "(thing)", "Taken": "(name)", "Undone": "(number)", "NoWay": "(way)",
+        "Missing": "(name)",
+    },
+}
+KINDS = {"errors": ("PointError", "NoExact", "NoLine", "NoRow", "NoBack", "NoBottom")}
+METHODS = {
+    ("exacts", "Exact"): {
+        "plus": "(self, other)", "minus": "(self, other)", "times": "(self, other)", "by": "(self, other)",
+        "sign_of": "(self)", "is_less": "(self, other)", "decimals": "(self, places)",
+    },
+}
+
+
+def home(file):
+    return importlib.import_module(f"pointhouse.{file}")
+
+
+class Interface(unittest.TestCase):
+    def test_functions_and_classes(self):
+        for file, rows in FUNCTIONS.items():
+            for name, told in rows.items():
+                with self.subTest(file=file, name=name):
+                    thing = getattr(home(file), name)
+                    self.assertEqual(str(inspect.signature(thing)), told)
+                    self.assertEqual(thing.__module__, f"pointhouse.{file}")
+
+    def test_classes_made_with_a_text(self):
+        for file, names in KINDS.items():
+            for name in names:
+                self.assertEqual(getattr(home(file), name).__module__, f"pointhouse.{file}")
+
+    def test_methods_stand_in_the_class_itself(self):
+        for (file, kind), rows in METHODS.items():
+            for name, told in rows.items():
+                with self.subTest(kind=kind, name=name):
+                    method = vars(getattr(home(file), kind))[name]
+                    self.assertEqual(str(inspect.signature(method)), told)
