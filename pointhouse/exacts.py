@@ -109,6 +109,12 @@ def are_fields(top, bottom, sign, over, under):
     return bottom > 0 and sign in (-1, 0, 1) and over >= 0 and under > 0
 
 
+def go_together(one, other):
+    """Whether the roots of both numbers go together; they do where a number has none."""
+    # A quotient is a square just where its top times its bottom is one.
+    return is_square(one.over * one.under * other.over * other.under)
+
+
 def on_one_root(one, other):
     """(over, under, parts, many, more): the roots of both numbers are many / parts times and
     more / parts times the root of over / under. TwoRoots where no root is such."""
@@ -116,9 +122,9 @@ def on_one_root(one, other):
         return other.over, other.under, 1, 0, other.sign
     if other.sign == 0:
         return one.over, one.under, 1, one.sign, 0
-    top, bottom = lowest_terms(other.over * one.under, other.under * one.over)
-    if not (is_square(top) and is_square(bottom)):
+    if not go_together(one, other):
         raise TwoRoots((one.over, one.under), (other.over, other.under))
+    top, bottom = lowest_terms(other.over * one.under, other.under * one.over)
     parts = isqrt(bottom)
     return one.over, one.under, parts, one.sign * parts, other.sign * isqrt(top)
 

@@ -11,6 +11,14 @@ FUNCTIONS = {
         "NoDeed": "(thing)", "NoFit": "(thing)", "Taken": "(name)", "Undone": "(number)", "NoWay": "(way)",
         "Missing": "(name)",
     },
+    "plane": {
+        "line_through": "(p, q)", "line_along": "(p, line)", "line_upright": "(p, line)", "lines_meet": "(one, other)",
+        "middle_of": "(p, q)", "foot_of": "(p, line)", "mirror_of": "(p, line)", "turned": "(p, about, many)",
+        "crossings": "(line, circle)",
+    },
+    "steps": {"is_sketch": "(thing)", "hanging": "(sketch, name)", "needed": "(sketch, names)"},
+    "sketchtexts": {"show_sketch": "(sketch)", "read_sketch": "(text)"},
+    "weights": {"weight_of": "(sketch, name)", "weight_in": "(sketch, saying)"},
 }
 KINDS = {"errors": ("PointError", "NoExact", "NoLine", "NoRow", "NoBack", "NoBottom")}
 METHODS = {
