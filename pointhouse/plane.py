@@ -61,10 +61,7 @@ def mirror_of(p, line):
 def turned(p, about, many):
     """A point turned about another one by so many right angles, leftwards."""
     refuse_two_roots(p + about)
-    dx, dy = way_between(about, p)
-    for _ in range(many):
-        dx, dy = negative(dy), dx
-    return pushed(about, (dx, dy))
+    return pushed(about, turned_way(way_between(about, p), many))
 
 
 def crossings(line, circle):
@@ -135,6 +132,14 @@ def square_sum(x, y):
 def way_between(p, q):
     """The way from one point to another."""
     return q[0].minus(p[0]), q[1].minus(p[1])
+
+
+def turned_way(way, many):
+    """A way turned by so many right angles, leftwards."""
+    x, y = way
+    for _ in range(many):
+        x, y = negative(y), x
+    return x, y
 
 
 def pushed(p, way):

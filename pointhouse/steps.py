@@ -111,6 +111,17 @@ def has_own_point(made, step):
     return point in points_on_line(made[line]) and made[circle][3] == point
 
 
+def line_of_way(steps, name):
+    """The step of the `line` whose way a line takes, and by how many right angles it is turned, leftwards."""
+    step = steps[name]
+    turns = 0
+    while step[0] != "line":
+        if step[0] == "upright":
+            turns = turns + 1
+        step = steps[step[3]]
+    return step, turns
+
+
 def points_on_line(step):
     """The names of the points through which a line's step leads it."""
     return step[2:] if step[0] == "line" else step[2:3]

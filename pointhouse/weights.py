@@ -1,6 +1,6 @@
 """Weights of the things of a sketch and of what is said of them."""
 
-from pointhouse.steps import names_in, sort_of
+from pointhouse.steps import line_of_way, names_in, sort_of
 
 # How often the things that a step names weigh in it. The circle of an `other` weighs what its O and P do.
 TIMES = {
@@ -72,8 +72,6 @@ def weight_behind(steps, weights, step):
 
 def weight_of_way(steps, weights, name):
     """The weight of the way of a line."""
-    step = steps[name]
-    while step[0] != "line":
-        step = steps[step[3]]
+    line, _ = line_of_way(steps, name)
     # What is through two points weighs what they do, and so does its way.
-    return weights[step[1]]
+    return weights[line[1]]

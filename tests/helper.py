@@ -1,5 +1,6 @@
 """What several tests share: numbers reckoned another way, and things of all kinds."""
 
+import random
 import re
 from fractions import Fraction
 from math import isqrt
@@ -177,9 +178,9 @@ def first_wrong(steps):
     return None
 
 
-def any_sketch(chance, many):
-    """A sketch of so many steps, whose words, names and parts hang on chance."""
-    steps = []
+def any_sketch(chance, many, ahead=()):
+    """A sketch of so many steps, whose words, names and parts hang on chance, but for those ahead."""
+    steps = list(ahead)
     while len(steps) < many:
         # Few things fit into an `other` or a cross, so these are tried more often.
         word = chance.choice(["free"] if len(steps) < 2 else list(PATTERNS) + ["other"] * 9 + ["cross", "meet"])
@@ -218,3 +219,46 @@ SKETCHES = (
                     "mirror abcdefgi a aaaab", "foot abcdefg aaa aaaa", "middle z abcdefgh abcdefgi",
                     "circle abcdefhg z a", "round zz abcdefhg", "other b aaaa abcdefhg a"),
 )
+
+# Behind these many things have roots.
+WITH_CROSSES = (
+    lines_as_sketch("free a", "free b", "free c", "free d", "line l a b", "circle k c d", "cross x l k 0"),
+    lines_as_sketch("free a", "free b", "free c", "line l a b", "line m b c", "circle k c a", "circle j a b",
+                    "cross x l k 1", "cross y m j 0", "circle i x c", "line n y a"),
+)
+# How many numbers of the hand a step of each word has.
+OWN = {"free": 2, "on": 1, "round": 1}
+
+
+def hand_of(*numbers):
+    return tuple(exact(number) for number in numbers)
+
+
+def any_hand(chance, many):
+    """Small whole numbers, or quotients, so that some steps can't be done."""
+    span, under = chance.choice(((1, 1), (4, 1), (4, 1), (4, 2), (4, 3)))
+    return tuple(Exact(chance.randint(-span, span), chance.randint(1, under)) for _ in range(many))
+
+
+def chance_sketches(first, last):
+    for seed in range(first, last):
+        chance = random.Random(seed)
+        if seed % 3 == 0:
+            yield chance, any_sketch(chance, chance.randint(0, 12))
+        else:
+            ahead = chance.choice(WITH_CROSSES)
+            yield chance, any_sketch(chance, chance.randint(len(ahead), 14), ahead)
+
+
+# How many names each word of a saying has, but at.
+SAYINGS = {"same": 2, "row": 3, "along": 4, "upright": 4, "alike": 4, "angle": 6, "ring": 4}
+
+
+def sayings_of(sketch, chance):
+    """Sayings of each word, of any names, the same ones too."""
+    points = [step[1] for step in sketch if sort_made(step) == "point"]
+    others = [step[1] for step in sketch if sort_made(step) != "point"]
+    for word, many in SAYINGS.items():
+        yield (word, *(chance.choice(points) for _ in range(many)))
+    for other in others:
+        yield ("at", chance.choice(points), other)

@@ -19,12 +19,25 @@ FUNCTIONS = {
     "steps": {"is_sketch": "(thing)", "hanging": "(sketch, name)", "needed": "(sketch, names)"},
     "sketchtexts": {"show_sketch": "(sketch)", "read_sketch": "(text)"},
     "weights": {"weight_of": "(sketch, name)", "weight_in": "(sketch, saying)"},
+    "drawing": {"numbers_for": "(sketch)", "is_hand": "(sketch, thing)", "drawn": "(sketch, hand)"},
+    "boards": {"Board": "(sketch, hand, *, way='signs', choices=())"},
+    "sums": {
+        "is_sum": "(many, thing)", "added": "(one, other)", "lessened": "(one, other)", "times": "(one, other)",
+        "worth_at": "(one, numbers)",
+    },
+    "sayings": {
+        "is_saying": "(sketch, thing)", "is_so": "(sketch, hand, saying)", "is_so_by": "(sketch, things, saying)",
+    },
 }
 KINDS = {"errors": ("PointError", "NoExact", "NoLine", "NoRow", "NoBack", "NoBottom")}
 METHODS = {
     ("exacts", "Exact"): {
         "plus": "(self, other)", "minus": "(self, other)", "times": "(self, other)", "by": "(self, other)",
         "sign_of": "(self)", "is_less": "(self, other)", "decimals": "(self, places)",
+    },
+    ("boards", "Board"): {
+        "hand": "(self)", "things": "(self)", "choices": "(self)", "move": "(self, hand)", "back": "(self)",
+        "copy": "(self)", "__len__": "(self)", "__eq__": "(self, other)",
     },
 }
 

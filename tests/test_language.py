@@ -280,6 +280,13 @@ class Code(unittest.TestCase):
                 for part in node.args:
                     self.assertNotIsInstance(part, ast.GeneratorExp, (name, node.lineno))
 
+    def test_stars_in_calls_stand_before_plain_things(self):
+        plain = (ast.Name, ast.Constant, ast.Attribute, ast.Tuple, ast.List, ast.Dict)
+        for name, node in nodes(ast.Call):
+            for part in node.args:
+                if isinstance(part, ast.Starred):
+                    self.assertIsInstance(part.value, plain, (name, node.lineno))
+
     def test_kept_at_once(self):
         for name, node in nodes(ast.Return, ast.AugAssign):
             if isinstance(node.value, ast.Call):

@@ -3,12 +3,9 @@ import random
 import unittest
 
 from pointhouse.weights import weight_in, weight_of
-from tests.helper import PATTERNS, SKETCHES, any_sketch, letters_of, lines_as_sketch, sort_made
+from tests.helper import PATTERNS, SKETCHES, any_sketch, letters_of, lines_as_sketch, sayings_of
 
 CHANCE_SKETCHES = tuple(any_sketch(random.Random(seed), 4 + seed % 11) for seed in range(2000, 3000))
-
-SAYINGS = {"same": 2, "row": 3, "along": 4, "upright": 4, "alike": 4, "angle": 6, "ring": 4}
-
 
 class Weighed:
     """The weights of point 8, each by its letters, from the top down."""
@@ -60,16 +57,6 @@ class Weighed:
             names += names
         each = [self.of(name) for name in names]
         return None if None in each else sum(each)
-
-
-def sayings_of(sketch, chance):
-    """Sayings of each word, of any names, the same ones too."""
-    points = [step[1] for step in sketch if sort_made(step) == "point"]
-    others = [step[1] for step in sketch if sort_made(step) != "point"]
-    for word, many in SAYINGS.items():
-        yield (word, *(chance.choice(points) for _ in range(many)))
-    for other in others:
-        yield ("at", chance.choice(points), other)
 
 
 class Weights(unittest.TestCase):
