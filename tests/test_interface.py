@@ -28,6 +28,9 @@ FUNCTIONS = {
     "sayings": {
         "is_saying": "(sketch, thing)", "is_so": "(sketch, hand, saying)", "is_so_by": "(sketch, things, saying)",
     },
+    "general": {"rows_of": "(sketch, names)", "ask": "(sketch, saying)"},
+    "generalchecks": {"rows_hold": "(sketch, saying, thing)"},
+    "conditions": {"conditions": "(sketch)"},
 }
 KINDS = {"errors": ("PointError", "NoExact", "NoLine", "NoRow", "NoBack", "NoBottom")}
 METHODS = {
