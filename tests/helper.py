@@ -226,6 +226,7 @@ WITH_CROSSES = (
     lines_as_sketch("free a", "free b", "free c", "line l a b", "line m b c", "circle k c a", "circle j a b",
                     "cross x l k 1", "cross y m j 0", "circle i x c", "line n y a"),
 )
+
 # How many numbers of the hand a step of each word has.
 OWN = {"free": 2, "on": 1, "round": 1}
 
@@ -241,6 +242,7 @@ def any_hand(chance, many):
 
 
 def chance_sketches(first, last):
+    """Sketches that hang on chance, with what their choice hung on; most of them have crosses."""
     for seed in range(first, last):
         chance = random.Random(seed)
         if seed % 3 == 0:

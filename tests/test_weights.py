@@ -7,6 +7,7 @@ from tests.helper import PATTERNS, SKETCHES, any_sketch, letters_of, lines_as_sk
 
 CHANCE_SKETCHES = tuple(any_sketch(random.Random(seed), 4 + seed % 11) for seed in range(2000, 3000))
 
+
 class Weighed:
     """The weights of point 8, each by its letters, from the top down."""
 
