@@ -5,7 +5,7 @@ from pointhouse.equations import comes_to_nought
 from pointhouse.exacts import Exact
 from pointhouse.plane import refuse_two_roots
 from pointhouse.reckoners import ExactReckoner
-from pointhouse.steps import is_name, sort_of
+from pointhouse.steps import is_name, sorts_by_name
 
 # How many points a saying names; of at a line or a circle follows.
 POINTS = {"same": 2, "row": 3, "along": 4, "upright": 4, "alike": 4, "angle": 6, "ring": 4, "at": 1}
@@ -15,7 +15,7 @@ def is_saying(sketch, thing):
     """Whether anything is a saying of the sketch."""
     if not is_saying_by_form(thing):
         return False
-    sorts = {step[1]: sort_of(step) for step in sketch}
+    sorts = sorts_by_name(sketch)
     return all([fits_place(thing[0], at, sorts.get(name)) for at, name in enumerate(thing[1:])])
 
 

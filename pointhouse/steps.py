@@ -135,3 +135,8 @@ def names_in(step):
 def sort_of(step):
     """The sort of what a step makes."""
     return MAKES.get(step[0], "point")
+
+
+def sorts_by_name(sketch):
+    """The sorts of what the steps make, by names."""
+    return {step[1]: sort_of(step) for step in sketch}

@@ -146,7 +146,7 @@ class Drawer:
     def __init__(self, sketch, hand, choose=None):
         self.steps = {step[1]: step for step in sketch}
         self.made = {}
-        rest = [from_exact(number) for number in hand]
+        rest = [from_exact(number) if isinstance(number, Exact) else number for number in hand]
         self.choose = choose or (lambda name, meets: letters_of(self.steps[name])["k"])
         for step in sketch:
             by = letters_of(step)

@@ -31,6 +31,10 @@ FUNCTIONS = {
     "general": {"rows_of": "(sketch, names)", "ask": "(sketch, saying)"},
     "generalchecks": {"rows_hold": "(sketch, saying, thing)"},
     "conditions": {"conditions": "(sketch)"},
+    "rulechecks": {"paper_holds": "(sketch, saying, thing)"},
+    "ruling": {"by_rules": "(sketch, saying, *, most=60)"},
+    "ways": {"way_of": "(sketch, hand, going, name)", "going_at": "(sketch, hand, going, name, point)"},
+    "lessons": {"is_lesson": "(thing)", "judged": "(lesson, steps)"},
 }
 KINDS = {"errors": ("PointError", "NoExact", "NoLine", "NoRow", "NoBack", "NoBottom")}
 METHODS = {
