@@ -22,7 +22,7 @@ def paper_holds(sketch, saying, thing):
 
 def is_row_by_form(thing):
     """Whether anything is something, the word of a rule, and whole numbers."""
-    if not isinstance(thing, tuple) or len(thing) != 3 or not isinstance(thing[1], str) or thing[1] not in RULES:
+    if not isinstance(thing, tuple) or len(thing) != 3 or thing[1] not in RULES:
         return False
     return isinstance(thing[2], tuple) and all([is_whole(place) for place in thing[2]])
 

@@ -18,7 +18,7 @@ def read_sketch(text):
         raise NoText(0)
     made = {}
     for row, line in enumerate(lines_in(text)):
-        step = step_in(line)
+        step = step_in(line.split(" "))
         if not is_further(made, step):
             raise NoText(row)
         made[step[1]] = step
@@ -35,6 +35,6 @@ def lines_in(text):
     return text.split("\n") if text else []
 
 
-def step_in(line):
-    """What a line would be as a step: its parts, those that are a figure as numbers."""
-    return tuple([FIGURES.get(part, part) for part in line.split(" ")])
+def step_in(words):
+    """What the words of a line would be as a step: its parts, those that are a figure as numbers."""
+    return tuple([FIGURES.get(word, word) for word in words])

@@ -35,6 +35,13 @@ FUNCTIONS = {
     "ruling": {"by_rules": "(sketch, saying, *, most=60)"},
     "ways": {"way_of": "(sketch, hand, going, name)", "going_at": "(sketch, hand, going, name, point)"},
     "lessons": {"is_lesson": "(thing)", "judged": "(lesson, steps)"},
+    "changes": {
+        "without": "(sketch, name)", "renamed": "(sketch, calls)", "hand_without": "(sketch, hand, name)",
+        "rows_without": "(sketch, rows, name)", "paper_without": "(sketch, paper, name)", "paper_renamed": "(paper, calls)",
+    },
+    "houses": {"House": "()"},
+    "desk": {"Desk": "()"},
+    "findings": {"finding_holds": "(thing)"},
 }
 KINDS = {"errors": ("PointError", "NoExact", "NoLine", "NoRow", "NoBack", "NoBottom")}
 METHODS = {
@@ -46,6 +53,12 @@ METHODS = {
         "hand": "(self)", "things": "(self)", "choices": "(self)", "move": "(self, hand)", "back": "(self)",
         "copy": "(self)", "__len__": "(self)", "__eq__": "(self, other)",
     },
+    ("houses", "House"): {
+        "do": "(self, deed)", "titles": "(self, by=None)", "sketch": "(self, title)", "hand": "(self, title)", "things": "(self, title)",
+        "claims": "(self, title)", "lesson": "(self, title)", "has": "(self, title)", "log": "(self)", "__len__": "(self)",
+        "__eq__": "(self, other)",
+    },
+    ("desk", "Desk"): {"say": "(self, row)"},
 }
 
 

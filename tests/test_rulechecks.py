@@ -7,6 +7,7 @@ from pointhouse.bounds import RULES
 from pointhouse.drawing import drawn, numbers_for
 from pointhouse.exacts import Exact
 from pointhouse.rulechecks import paper_holds
+from pointhouse.ruling import learn_turned, made_knowledge
 from pointhouse.sayings import is_so
 from tests.helper import SAYINGS, any_hand, chance_sketches, lines_as_sketch, sayings_of
 from tests.rules_anew import made_rows, paper_holds_anew, told_anew
@@ -306,6 +307,77 @@ class Rules(Checked):
             self.assertIn((word, True), seen)
             if word not in ("row", "ring"):
                 self.assertIn((word, False), seen)
+
+
+class Wanted(Checked):
+    """Each saying, each step that a rule wants, put otherwise in one name: what is known of rich sketches is told on
+    by the package, and held against the words of point 16."""
+
+    RICH = (
+        ("free a", "free b", "free c", "free d", "line l a b", "line m a c", "line n b c", "line o a d", "along p d l", "along q c l", "upright r c l",
+         "on e p", "on f l", "on g q"),
+        ("free a", "free b", "free c", "line l a b", "line m a c", "line n c b", "foot f c l", "foot g b m", "mirror w c l", "mirror v b m", "upright u b m",
+         "upright r c l", "meet h u r"),
+        ("free a", "free b", "circle k a b", "round p k", "round q k", "round r k", "circle j p a", "line l b p", "line m p q", "line n b q", "line o q r",
+         "other y l k b"),
+        ("free a", "free b", "free c", "middle m a b", "middle n a c", "middle o b c", "line l a b", "line k a c", "line j b c", "turn t b a 1",
+         "turn s b a 3", "turn r c a 1", "line i a t"),
+        ("free a", "free b", "turn c b a 1", "turn d b a 2", "turn e b a 3", "line l a b", "line m a c", "line n a d", "line o b c", "middle x b d", "circle k a b"),
+        ("free a", "free b", "middle m a b", "circle k m a", "round p k", "round q k", "line l a p", "line n a q", "line o p b", "turn r a m 1", "middle h a p"),
+        ("free o", "free a", "free b", "free c", "middle d o a", "middle e o b", "middle f o c", "line l a b", "line m b c", "line n a c", "foot g c l",
+         "foot h a m"),
+    )
+
+    def known_of(self, sketch, most):
+        known = made_knowledge(sketch, tuple(range(len(sketch))))
+        for saying in list(known.ways):
+            learn_turned(known, saying)
+        for _ in range(3):
+            for rule in RULES:
+                for saying, way in known.told_further(rule)[:150]:
+                    if len(known.ways) < most:
+                        known.learn(saying, way)
+                        learn_turned(known, saying)
+        return known
+
+    def put_together(self, known, saying, rule, steps, ahead):
+        """A paper of a last row behind the papers of what it wants, its places counted anew."""
+        rows, order = [], []
+        for one in ahead:
+            for said, by, places in known.paper_of(one):
+                if said not in order:
+                    many = len(known.ways[said][1])
+                    order.append(said)
+                    rows.append((said, by, (*places[:many], *[order.index(other) for other in known.ways[said][2]])))
+        return (*rows, (saying, rule, (*steps, *[order.index(one) for one in ahead])))
+
+    def near(self, known, saying):
+        """Known sayings of the word that differ in one name."""
+        return [other for other in known.ways if other[0] == saying[0] and sum(a != b for a, b in zip(other, saying)) == 1]
+
+    def test_each_saying_that_is_wanted(self):
+        met = {}
+        for number, rows in enumerate(self.RICH):
+            sketch, chance = lines_as_sketch(*rows), random.Random(number)
+            known = self.known_of(sketch, 900)
+            for rule in RULES:
+                ways = [(saying, way) for saying, way in known.ways.items() if way[0] == rule and saying[0] != "unlike"]
+                for saying, (_, steps, ahead) in chance.sample(ways, min(25, len(ways))):
+                    self.check(sketch, self.put_together(known, saying, rule, steps, ahead), True)
+                    for at, one in enumerate(ahead):
+                        for other in chance.sample(near := self.near(known, one), min(8, len(near))):
+                            paper = self.put_together(known, saying, rule, steps, put(ahead, at, other))
+                            names = [a == b for a, b in zip(one, other)]
+                            key = rule, steps and sketch[steps[0]][0], at, names.index(False), self.check(sketch, paper)
+                            met[key] = met.get(key, 0) + 1
+                    for at, step in enumerate(steps):
+                        for other, there in enumerate(sketch):
+                            if other != step:
+                                told = self.check(sketch, self.put_together(known, saying, rule, put(steps, at, other), ahead))
+                                key = rule, there[0], "step", told
+                                met[key] = met.get(key, 0) + 1
+        self.assertEqual({key[0] for key in met if not key[-1]} | {"made"}, set(RULES))
+        self.assertGreater(len(met), 150)
 
 
 class Things(Checked):
