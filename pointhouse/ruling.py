@@ -18,15 +18,15 @@ SAMPLES = 3
 
 def by_rules(sketch, saying, *, most=ROWS):
     """A paper of at most so many rows of a saying, or None; found where one row behind made ones is enough."""
-    everything = tuple(range(len(sketch)))
-    paper = paper_by_one_row(sketch, everything, saying)
-    if is_fitting(paper, most) or not is_worth_a_search(sketch, saying, most):
-        return paper if is_fitting(paper, most) else None
-    # Fewer steps lead further before too much is known.
-    for numbers in (steps_about(sketch, saying), everything):
-        paper = paper_by_search(sketch, numbers, saying)
-        if is_fitting(paper, most):
-            return paper
+    paper = paper_by_one_row(sketch, saying)
+    if is_fitting(paper, most):
+        return paper
+    if is_worth_a_search(sketch, saying, most):
+        # Fewer steps lead further before too much is known.
+        for numbers in (steps_about(sketch, saying), all_steps(sketch)):
+            paper = paper_by_search(sketch, numbers, saying)
+            if is_fitting(paper, most):
+                return paper
     return None
 
 
@@ -60,6 +60,11 @@ def sample_hand(sketch, number):
     return tuple([Exact(top, bottom) for top, bottom in worths])
 
 
+def all_steps(sketch):
+    """The numbers of all steps."""
+    return tuple(range(len(sketch)))
+
+
 def steps_about(sketch, saying):
     """The numbers of the steps that a saying needs, and of the lines and circles that are made of these alone."""
     numbers = needed(sketch, saying[1:])
@@ -71,9 +76,9 @@ def steps_about(sketch, saying):
     ])
 
 
-def paper_by_one_row(sketch, numbers, saying):
-    """The shortest paper, by these steps, in which all rows but the last are made ones, or None."""
-    known = made_knowledge(sketch, numbers)
+def paper_by_one_row(sketch, saying):
+    """The shortest paper in which all rows but the last are made ones, or None."""
+    known = made_knowledge(sketch, all_steps(sketch))
     ways = known.ways_to(saying)
     if ways:
         least = min([len(rows_wanted(way)) for way in ways])

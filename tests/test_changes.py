@@ -19,7 +19,8 @@ from tests.test_general import HOLDING, in_bounds
 from tests.test_rulechecks import PAPERS, paper_in
 from tests.test_ruling import as_sketch
 
-WIDE = lines_as_sketch("free a", "free b", "free c", "line l a b", "on p l", "circle k p c", "round q k", "free d", "foot f d l")
+WIDE = lines_as_sketch("free a", "free b", "free c", "line l a b", "on p l", "circle k p c", "round q k", "free d",
+                       "foot f d l")
 
 
 def rows_without_anew(sketch, rows, name):
@@ -35,7 +36,8 @@ def rows_without_anew(sketch, rows, name):
     stay = [at for at, place in enumerate(unknowns) if place not in of_gone]
     left = [step[1] for step in sketch if step[1] not in gone]
     return tuple(
-        (left.index(sketch[number][1]), tuple(tuple((tuple(powers[at] for at in stay), many) for powers, many in one) for one in row))
+        (left.index(sketch[number][1]), tuple(tuple((tuple(powers[at] for at in stay), many) for powers,
+                                                    many in one) for one in row))
         for number, row in rows
     )
 
@@ -66,7 +68,8 @@ class Changed(unittest.TestCase):
 
 class Without(Changed):
     def test_known(self):
-        for name, went in (("a", "a l p k q f"), ("b", "b l p k q f"), ("c", "c k q"), ("l", "l p k q f"), ("p", "p k q"), ("k", "k q"),
+        for name, went in (("a", "a l p k q f"), ("b", "b l p k q f"), ("c", "c k q"), ("l", "l p k q f"), ("p", "p k q"),
+                           ("k", "k q"),
                            ("q", "q"), ("d", "d f"), ("f", "f")):
             left, gone = self.ask(without, sketch=WIDE, name=name)
             self.assertEqual(gone, tuple(went.split(" ")))
@@ -93,7 +96,8 @@ class Without(Changed):
 
     def test_hands(self):
         hand = hand_of(1, 2, 3, 4, 5, 6, 7, 8, 9, 10)
-        for name, left in (("a", (3, 4, 5, 6, 9, 10)), ("b", (1, 2, 5, 6, 9, 10)), ("c", (1, 2, 3, 4, 7, 9, 10)), ("p", (1, 2, 3, 4, 5, 6, 9, 10)),
+        for name, left in (("a", (3, 4, 5, 6, 9, 10)), ("b", (1, 2, 5, 6, 9, 10)), ("c", (1, 2, 3, 4, 7, 9, 10)),
+                           ("p", (1, 2, 3, 4, 5, 6, 9, 10)),
                            ("q", (1, 2, 3, 4, 5, 6, 7, 9, 10)), ("d", (1, 2, 3, 4, 5, 6, 7, 8)), ("f", tuple(range(1, 11)))):
             self.assertEqual(self.ask(hand_without, sketch=WIDE, hand=hand, name=name), hand_of(*left))
 
@@ -112,7 +116,8 @@ class Renamed(Changed):
     def test_known(self):
         sketch = lines_as_sketch("free a", "free b", "line l a b", "on p l", "turn t a p 3")
         self.assertEqual(self.check(sketch, ()), sketch)
-        self.assertEqual(self.check(sketch, (("a", "c"),)), lines_as_sketch("free c", "free b", "line l c b", "on p l", "turn t c p 3"))
+        self.assertEqual(self.check(sketch, (("a", "c"),)), lines_as_sketch("free c", "free b", "line l c b", "on p l",
+                                                                            "turn t c p 3"))
         self.assertEqual(self.check(sketch, (("a", "b"), ("b", "a"))),
                          lines_as_sketch("free b", "free a", "line l b a", "on p l", "turn t b p 3"))
         self.assertEqual(self.check(sketch, (("a", "b"), ("b", "l"), ("l", "p"), ("p", "t"), ("t", "a"))),
@@ -156,7 +161,8 @@ class Rows(Changed):
         self.assertEqual([number for number, _ in rows], [0, 1, 3, 4])
         for name in ("a", "b", "l", "p"):
             self.assertIsNone(self.check(WIDE, rows, name))
-        for name, numbers, unknowns in (("c", [0, 1, 2, 3], 3), ("k", [0, 1, 3, 4], 5), ("q", [0, 1, 3, 4], 5), ("d", [0, 1, 3, 4], 4),
+        for name, numbers, unknowns in (("c", [0, 1, 2, 3], 3), ("k", [0, 1, 3, 4], 5), ("q", [0, 1, 3, 4], 5),
+                                        ("d", [0, 1, 3, 4], 4),
                                         ("f", [0, 1, 3, 4], 6)):
             told = self.check(WIDE, rows, name)
             self.assertEqual([number for number, _ in told], numbers)
@@ -225,12 +231,15 @@ class Rows(Changed):
 
 class Papers(Changed):
     def test_known(self):
-        sketch, paper = lines_as_sketch("free z", *"free a, free b, free y, circle k a b, round p k, round q k, line l y z".split(", ")), paper_in(
+        sketch, paper = lines_as_sketch("free z",
+                                        *"free a, free b, free y, circle k a b, round p k, round q k, line l y z".split(", ")), paper_in(
             ("at p k: made 5", "alike a p a b: round 4 0"))
         saying = ("alike", "a", "p", "a", "b")
         self.assertTrue(paper_holds(sketch, saying, paper))
-        for name, wanted in (("z", ("at p k: made 4", "alike a p a b: round 3 0")), ("y", ("at p k: made 4", "alike a p a b: round 3 0")),
-                             ("l", ("at p k: made 5", "alike a p a b: round 4 0")), ("q", ("at p k: made 5", "alike a p a b: round 4 0")),
+        for name, wanted in (("z", ("at p k: made 4", "alike a p a b: round 3 0")),
+                             ("y", ("at p k: made 4", "alike a p a b: round 3 0")),
+                             ("l", ("at p k: made 5", "alike a p a b: round 4 0")),
+                             ("q", ("at p k: made 5", "alike a p a b: round 4 0")),
                              ("a", None), ("b", None), ("k", None), ("p", None)):
             told = self.ask(paper_without, sketch=sketch, paper=paper, name=name)
             self.assertEqual(told, None if wanted is None else paper_in(wanted))

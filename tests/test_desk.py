@@ -12,7 +12,8 @@ from pointhouse.sayings import is_so_by
 from pointhouse.sketchtexts import read_sketch, show_sketch
 from tests.helper import OWN, any_hand, chance_sketches, hand_of, sayings_of, sort_made
 
-ROWS = ("free o 0 0", "free p 5 0", "free a 0 3", "free b 1 3", "line l a b", "circle k o p", "cross x l k 0", "cross y l k 1", "on q l -1/2",
+ROWS = ("free o 0 0", "free p 5 0", "free a 0 3", "free b 1 3", "line l a b", "circle k o p", "cross x l k 0",
+        "cross y l k 1", "on q l -1/2",
         "foot f o l")
 OTHER_KINDS = (None, True, False, 0, 7, -1, (), ("text",), ["text"], {}, {"text": "text"}, Exact(1), ("where", "o"), [], ([],))
 
@@ -51,10 +52,13 @@ class Rows(Said):
     def test_steps(self):
         desk = self.desk(*ROWS, "round r k 1/3", "middle h a b", "mirror g o l", "turn t a b 3", "along n o l", "upright u o l",
                          "meet w u l", "line j o p", "other z j k p", "circle i f o", "on s u 0")
-        self.assertEqual(desk.say("text"), "free o/free p/free a/free b/line l a b/circle k o p/cross x l k 0/cross y l k 1/on q l/foot f o l/round r k/"
+        self.assertEqual(desk.say("text"),
+                         "free o/free p/free a/free b/line l a b/circle k o p/cross x l k 0/cross y l k 1/on q l/foot f o l/round r k/"
                          "middle h a b/mirror g o l/turn t a b 3/along n o l/upright u o l/meet w u l/line j o p/other z j k p/circle i f o/on s u")
-        for name, told in (("o", "0 0"), ("q", "-1/2 3"), ("r", "4 3"), ("h", "1/2 3"), ("g", "0 6"), ("t", "1 4"), ("n", "0 1 0"), ("u", "1 0 0"),
-                           ("w", "0 3"), ("j", "0 1 0"), ("z", "-5 0"), ("i", "0 3 9"), ("s", "0 0"), ("x", "-4 3"), ("l", "0 1 3"), ("k", "0 0 25")):
+        for name, told in (("o", "0 0"), ("q", "-1/2 3"), ("r", "4 3"), ("h", "1/2 3"), ("g", "0 6"), ("t", "1 4"),
+                           ("n", "0 1 0"), ("u", "1 0 0"),
+                           ("w", "0 3"), ("j", "0 1 0"), ("z", "-5 0"), ("i", "0 3 9"), ("s", "0 0"), ("x", "-4 3"),
+                           ("l", "0 1 3"), ("k", "0 0 25")):
             self.assertEqual(desk.say(f"where {name}"), told)
 
     def test_text(self):
@@ -69,7 +73,8 @@ class Rows(Said):
         self.assertEqual(desk.say("where t"), "-1/2 3")
 
     def test_numbers(self):
-        desk = self.desk("free a 999999/999998 -999999", "free b -1/3 0", "line l a b", "on p l -7/2", "circle k a b", "round q k 0")
+        desk = self.desk("free a 999999/999998 -999999", "free b -1/3 0", "line l a b", "on p l -7/2", "circle k a b",
+                         "round q k 0")
         self.assertEqual(desk.say("where a"), "999999/999998 -999999")
         self.assertEqual(desk.say("where q"), "-1/3 0")
 
@@ -113,7 +118,8 @@ class Rows(Said):
         self.refused(desk, "back", errors.NoBack)
 
     def test_where(self):
-        desk = self.desk("free o 0 0", "free p 1 0", "free a 0 1/2", "free b 1 1/2", "line l a b", "circle k o p", "cross x l k 0", "line m x o", "free c 7 7",
+        desk = self.desk("free o 0 0", "free p 1 0", "free a 0 1/2", "free b 1 1/2", "line l a b", "circle k o p",
+                         "cross x l k 0", "line m x o", "free c 7 7",
                          "middle h x c", "along n c l", "meet w l n", "foot e w m")
         self.assertEqual(desk.say("where x"), "0-r3/4 1/2")
         self.assertEqual(desk.say("where m"), "1 0+r3 0")
@@ -125,9 +131,12 @@ class Rows(Said):
 
     def test_holds(self):
         desk = self.desk(*ROWS, "free c 0 3", "line m a c", "foot e o m")
-        for row, told in (("holds at x k", "yes"), ("holds at a l", "yes"), ("holds at o l", "no"), ("holds same a c", "yes"), ("holds same a b", "no"),
-                          ("holds row a b q", "yes"), ("holds along a b o p", "yes"), ("holds upright a b o f", "yes"), ("holds alike o x o p", "yes"),
-                          ("holds angle o p a a p o", "no"), ("holds ring x y p p", "yes"), ("holds at a m", "none"), ("holds same e a", "none"),
+        for row, told in (("holds at x k", "yes"), ("holds at a l", "yes"), ("holds at o l", "no"), ("holds same a c", "yes"),
+                          ("holds same a b", "no"),
+                          ("holds row a b q", "yes"), ("holds along a b o p", "yes"), ("holds upright a b o f", "yes"),
+                          ("holds alike o x o p", "yes"),
+                          ("holds angle o p a a p o", "no"), ("holds ring x y p p", "yes"), ("holds at a m", "none"),
+                          ("holds same e a", "none"),
                           ("holds row e a b", "none"), ("holds same e e", "none")):
             self.assertEqual(desk.say(row), told, row)
         # As the drawing stands: not as its text alone, nor in general.
@@ -142,7 +151,8 @@ class Rows(Said):
         self.refused(desk, "holds same e zz", errors.NoFit, thing=("same", "e", "zz"))
 
     def test_holds_by_two_roots(self):
-        desk = self.desk("free o 0 0", "free p 1 0", "free a 0 1/2", "free b 1 1/2", "free c 0 1/3", "free d 1 1/3", "line l a b", "line m c d", "circle k o p",
+        desk = self.desk("free o 0 0", "free p 1 0", "free a 0 1/2", "free b 1 1/2", "free c 0 1/3", "free d 1 1/3",
+                         "line l a b", "line m c d", "circle k o p",
                          "cross x l k 0", "cross y m k 1", "free e 2 2", "along n e l", "meet w n l")
         self.refused(desk, "holds same x y", errors.TwoRoots, one=(3, 4), other=(8, 9))
         self.refused(desk, "holds row a y x", errors.TwoRoots, one=(8, 9), other=(3, 4))
@@ -150,10 +160,12 @@ class Rows(Said):
         self.assertEqual(desk.say("holds ring x y w a"), "none")
 
     def test_claim(self):
-        desk = self.desk("free a 0 0", "free b 1 0", "free c 2 2", "middle m a b", "line l a b", "on p l 4", "circle k c a", "cross x l k 0", "middle n b a",
+        desk = self.desk("free a 0 0", "free b 1 0", "free c 2 2", "middle m a b", "line l a b", "on p l 4", "circle k c a",
+                         "cross x l k 0", "middle n b a",
                          "line j m n")
         for row, told in (("claim row a m b", "holds"), ("claim at p l", "holds"), ("claim same p a", "fails 0 0 1 0 0 0 1"),
-                          ("claim at c l", "fails 0 0 1 0 0 1 0"), ("claim same a b", "fails 0 0 1 0 0 0 0"), ("claim at a k", "holds"),
+                          ("claim at c l", "fails 0 0 1 0 0 1 0"), ("claim same a b", "fails 0 0 1 0 0 0 0"),
+                          ("claim at a k", "holds"),
                           ("claim row a m b", "holds"), ("claim same p a", "fails 0 0 1 0 0 0 1")):
             self.assertEqual(desk.say(row), told, row)
         self.refused(desk, "claim same a zz", errors.NoFit, thing=("same", "a", "zz"))
@@ -168,19 +180,32 @@ class Rows(Said):
 class Refusals(Said):
     def test_no_rows(self):
         desk = self.desk(*ROWS)
-        for row in (*OTHER_KINDS, "", " ", "  ", "a", "ok", "none", "free", "free c", "free c 1", "free c 1 2 3", "free c 1 2 ", " free c 1 2", "free  c 1 2",
-                    "free c  1 2", "free c 1  2", "free c 1 2\n", "free c 1 2\nfree d 1 2", "free c\n1 2", "free\nc 1 2", "free c 01 2", "free c 1/1 2",
-                    "free c 2/4 1", "free c +1 2", "free c -0 2", "free c 1. 2", "free c r2 1", "free c 0+r2 1", "free c 1 1+r1/2", "free c a b",
-                    "free C 1 2", "free abcdefghi 1 2", "free c1 1 2", "fre c 1 2", "Free c 1 2", "on c l", "on c l 1 2", "on c l l 1", "on c 1 l",
-                    "round c k", "round c k 1/2 3", "middle c a b 1", "middle c a", "turn c a b", "turn c a b 4", "turn c a b 0", "turn c a b 1 1",
-                    "turn c a b 01", "turn c a b x", "cross c l k", "cross c l k 2", "cross c l k -1", "line c a", "line c a b a", "line c a B",
-                    "out", "out a b", "out A", "out ", "out  a", "out abcdefghi", "back ", "back a", "back 1", "Back", " back", "back\n", "text ", "text a",
-                    " text", "text\n", "where", "where a b", "where A", "where a ", "where  a", "where 1", "where a1", "holds", "holds same a",
-                    "holds same a b o", "holds same a B", "holds same a  b", "holds  same a b", "holds unlike a b", "holds at a", "holds row a b",
-                    "holds angle a b a b a", "holds ring a b a b a", "same a b", "at a l", "claim", "claim same a", "claim same a b a", "claim unlike a b",
-                    "claim same a 1", "claim ", "step free c 1 2", "call a c", "drop a", "make a", "all", "move", "move 1 2 3 4 5 6 7 8", "move 1 2 3 4 5 6 7 8 9 1",
-                    "move 1 2 3 4 5 6 7 8 x", "move 1 2 3 4 5 6 7 8 0+r2", "move 1 2 3 4 5 6 7 8 02", "move 1 2 3 4 5 6 7 8  9", "move 1 2 3 4 5 6 7 8 9 ",
-                    "move 1 2 3 4 5 6 7 8 9\n", "x" * 4000, "free " * 800, " " * 4000, "\n" * 4000, "free c " + "1" * 61 + " 2", "free,c,1,2"):
+        for row in (*OTHER_KINDS, "", " ", "  ", "a", "ok", "none", "free", "free c", "free c 1", "free c 1 2 3",
+                    "free c 1 2 ", " free c 1 2", "free  c 1 2",
+                    "free c  1 2", "free c 1  2", "free c 1 2\n", "free c 1 2\nfree d 1 2", "free c\n1 2", "free\nc 1 2",
+                    "free c 01 2", "free c 1/1 2",
+                    "free c 2/4 1", "free c +1 2", "free c -0 2", "free c 1. 2", "free c r2 1", "free c 0+r2 1",
+                    "free c 1 1+r1/2", "free c a b",
+                    "free C 1 2", "free abcdefghi 1 2", "free c1 1 2", "fre c 1 2", "Free c 1 2", "on c l", "on c l 1 2",
+                    "on c l l 1", "on c 1 l",
+                    "round c k", "round c k 1/2 3", "middle c a b 1", "middle c a", "turn c a b", "turn c a b 4",
+                    "turn c a b 0", "turn c a b 1 1",
+                    "turn c a b 01", "turn c a b x", "cross c l k", "cross c l k 2", "cross c l k -1", "line c a",
+                    "line c a b a", "line c a B",
+                    "out", "out a b", "out A", "out ", "out  a", "out abcdefghi", "back ", "back a", "back 1", "Back",
+                    " back", "back\n", "text ", "text a",
+                    " text", "text\n", "where", "where a b", "where A", "where a ", "where  a", "where 1", "where a1",
+                    "holds", "holds same a",
+                    "holds same a b o", "holds same a B", "holds same a  b", "holds  same a b", "holds unlike a b",
+                    "holds at a", "holds row a b",
+                    "holds angle a b a b a", "holds ring a b a b a", "same a b", "at a l", "claim", "claim same a",
+                    "claim same a b a", "claim unlike a b",
+                    "claim same a 1", "claim ", "step free c 1 2", "call a c", "drop a", "make a", "all", "move",
+                    "move 1 2 3 4 5 6 7 8", "move 1 2 3 4 5 6 7 8 9 1",
+                    "move 1 2 3 4 5 6 7 8 x", "move 1 2 3 4 5 6 7 8 0+r2", "move 1 2 3 4 5 6 7 8 02",
+                    "move 1 2 3 4 5 6 7 8  9", "move 1 2 3 4 5 6 7 8 9 ",
+                    "move 1 2 3 4 5 6 7 8 9\n", "x" * 4000, "free " * 800, " " * 4000, "\n" * 4000,
+                    "free c " + "1" * 61 + " 2", "free,c,1,2"):
             self.refused(desk, row, errors.NoRow)
             self.assertNotIsInstance(errors.NoRow("x"), (errors.NoText, errors.NoDeed, KeyError))
         deep = ()
@@ -191,9 +216,11 @@ class Refusals(Said):
 
     def test_each_row_with_blanks_put_otherwise(self):
         desk = self.desk(*ROWS)
-        for row in ("free c 1 2", "middle c a b", "on c l 1", "out a", "move 1 2 3 4 5 6 7 8 9", "back", "where a", "holds same a b", "claim same a b", "text"):
+        for row in ("free c 1 2", "middle c a b", "on c l 1", "out a", "move 1 2 3 4 5 6 7 8 9", "back", "where a",
+                    "holds same a b", "claim same a b", "text"):
             words = row.split(" ")
-            for other in (" " + row, row + " ", row + "\n", "\n" + row, row + "  ", row.replace(" ", "  "), row.replace(" ", "\n"), row.replace(" ", "\t"),
+            for other in (" " + row, row + " ", row + "\n", "\n" + row, row + "  ", row.replace(" ", "  "),
+                          row.replace(" ", "\n"), row.replace(" ", "\t"),
                           row.upper(), row + "\r"):
                 if other != row:
                     self.refused(desk, other, errors.NoRow)
@@ -271,11 +298,14 @@ class AsAHouse(Said):
 
     def test_eighty_rows(self):
         started = time.process_time()
-        desk = self.desk("free a 999999/999998 -999998/7", "free b 1/999999 0", "free c 3 4", "line l a b", "line m b c", "circle k a c", "cross x m k 0",
-                         "on p l 777777/999979", "middle h a p", "mirror g c l", "foot f c l", "turn t c a 1", "meet q l m", "cross y l k 1")
+        desk = self.desk("free a 999999/999998 -999998/7", "free b 1/999999 0", "free c 3 4", "line l a b", "line m b c",
+                         "circle k a c", "cross x m k 0",
+                         "on p l 777777/999979", "middle h a p", "mirror g c l", "foot f c l", "turn t c a 1", "meet q l m",
+                         "cross y l k 1")
         chance = random.Random(1)
         for _ in range(60):
-            numbers = [f"{chance.randint(-999999, 999999)}" for _ in range(sum(OWN.get(row.split(' ')[0], 0) for row in desk.say("text").split("/")))]
+            numbers = [f"{chance.randint(-999999, 999999)}" for _ in range(sum(OWN.get(row.split(' ')[0],
+                                                                                       0) for row in desk.say("text").split("/")))]
             desk.say(" ".join(["move", *numbers]))
             self.assertNotEqual(desk.say("where q"), "none")
         self.assertEqual(desk.say("claim upright c f a b"), "holds")

@@ -25,7 +25,8 @@ TEXT = show_sketch(SKETCH)
 HOLDS = ("holds", TEXT, ("at", "m", "l"), ask(SKETCH, ("at", "m", "l"))[1])
 RULES = ("rules", TEXT, ("upright", "c", "f", "a", "b"), by_rules(SKETCH, ("upright", "c", "f", "a", "b")))
 FAILS = ("fails", TEXT, ("same", "m", "f"), ask(SKETCH, ("same", "m", "f"))[1])
-OTHER_KINDS = (None, True, 0, "", "holds", (), [], {}, Exact(1), ("holds",), ("holds", TEXT), ("holds", TEXT, ("at", "m", "l")), list(HOLDS),
+OTHER_KINDS = (None, True, 0, "", "holds", (), [], {}, Exact(1), ("holds",), ("holds", TEXT),
+               ("holds", TEXT, ("at", "m", "l")), list(HOLDS),
                {"holds": TEXT}, (HOLDS,), (1, 2, 3, 4), ("holds", "rules", "fails", ""), ((), (), (), ()))
 
 
@@ -67,8 +68,10 @@ class Sorts(Found):
 
     def test_another_text(self):
         for finding in (HOLDS, RULES, FAILS):
-            for text in ("", " " + TEXT, TEXT + "\n", TEXT + " ", TEXT.replace("\n", "\n\n"), TEXT.replace(" ", "  "), TEXT.replace("free", "fre"), None, 3, True,
-                         SKETCH, (TEXT,), [TEXT], TEXT.replace("line l a b", "line l a a"), TEXT + "\nfree a", TEXT.upper(), "\n".join(TEXT.split("\n")[:3]),
+            for text in ("", " " + TEXT, TEXT + "\n", TEXT + " ", TEXT.replace("\n", "\n\n"), TEXT.replace(" ", "  "),
+                         TEXT.replace("free", "fre"), None, 3, True,
+                         SKETCH, (TEXT,), [TEXT], TEXT.replace("line l a b", "line l a a"), TEXT + "\nfree a", TEXT.upper(),
+                         "\n".join(TEXT.split("\n")[:3]),
                          TEXT.replace("\n", "/")):
                 self.holds(put(finding, 1, text), False)
         # Of another sketch it may hold as well, where steps and unknowns are numbered alike.
@@ -80,15 +83,18 @@ class Sorts(Found):
 
     def test_another_saying(self):
         for finding in (HOLDS, RULES, FAILS):
-            for saying in (("same", "a", "b"), ("same", "a", "zz"), ("at", "a", "m"), ("at", "m", "k"), ("at", "l", "m"), ("unlike", "a", "b"), (), None, 0, "at m l",
-                           ["at", "m", "l"], ("at", "m"), ("at", "m", "l", "l"), (("at", "m", "l"),), ("upright", "c", "f", "a", "l"), {"at": "m"}, ("at", None, "l"),
+            for saying in (("same", "a", "b"), ("same", "a", "zz"), ("at", "a", "m"), ("at", "m", "k"), ("at", "l", "m"),
+                           ("unlike", "a", "b"), (), None, 0, "at m l",
+                           ["at", "m", "l"], ("at", "m"), ("at", "m", "l", "l"), (("at", "m", "l"),),
+                           ("upright", "c", "f", "a", "l"), {"at": "m"}, ("at", None, "l"),
                            ("at", ("m",), "l"), (None, "m", "l"), ("row", "c", "a", "b"), ("same", "m", "m")):
                 wanted = finding[0] == "fails" and is_saying_anew(SKETCH, saying) and is_so(SKETCH, FAILS[3], saying) is False
                 self.holds(put(finding, 2, saying), wanted)
 
     def test_another_thing_shown(self):
         for finding in (HOLDS, RULES, FAILS):
-            for thing in (*OTHER_KINDS, HOLDS[3], RULES[3], FAILS[3], HOLDS[3][:-1], RULES[3][:-1], FAILS[3][:-1], list(HOLDS[3]), list(RULES[3]), list(FAILS[3]),
+            for thing in (*OTHER_KINDS, HOLDS[3], RULES[3], FAILS[3], HOLDS[3][:-1], RULES[3][:-1], FAILS[3][:-1],
+                          list(HOLDS[3]), list(RULES[3]), list(FAILS[3]),
                           (*HOLDS[3], HOLDS[3][0]), (*FAILS[3], exact(1))):
                 self.holds(put(finding, 3, thing), thing == finding[3] and type(thing) is tuple)
 
@@ -119,7 +125,7 @@ class Sorts(Found):
         self.holds(deep, False)
         self.holds(("holds",) * 60000, False)
         self.holds(put(RULES, 3, RULES[3][:1] * 5000 + RULES[3][1:2] + RULES[3][-1:]), False)
-        self.holds(put(RULES, 3, RULES[3] * 1 + RULES[3][:1] * 3000 + RULES[3][-1:]), True)
+        self.holds(put(RULES, 3, RULES[3] + RULES[3][:1] * 3000 + RULES[3][-1:]), True)
         row = HOLDS[3][0]
         long = tuple(((power, 0), 1) for power in range(5000))
         self.holds(put(HOLDS, 3, ((row[0], (long, long, long)), *HOLDS[3][1:])), False)
@@ -133,10 +139,14 @@ class Hands(Found):
 
     def test_hands(self):
         rows = ("free a", "free b", "free c", "line l a b", "foot f c l")
-        for saying, numbers, wanted in (("same a c", (0, 0, 1, 0, 1, 1), True), ("same a c", (0, 0, 1, 0, 0, 0), False), ("same a c", (5, 5, 5, 5, 1, 1), True),
-                                        ("at c l", (5, 5, 5, 5, 1, 1), False), ("same f c", (5, 5, 5, 5, 1, 1), False), ("at c l", (0, 0, 1, 0, 1, 1), True),
-                                        ("at c l", ("1/2", 0, 1, 0, "-1/3", "7/9"), True), ("at f l", (0, 0, 1, 0, 1, 1), False),
-                                        ("at c l", (0, 0, 1, 0, 1), False), ("at c l", (0, 0, 1, 0, 1, 1, 1), False), ("at c l", (), False)):
+        for saying, numbers, wanted in (("same a c", (0, 0, 1, 0, 1, 1), True), ("same a c", (0, 0, 1, 0, 0, 0), False),
+                                        ("same a c", (5, 5, 5, 5, 1, 1), True),
+                                        ("at c l", (5, 5, 5, 5, 1, 1), False), ("same f c", (5, 5, 5, 5, 1, 1), False),
+                                        ("at c l", (0, 0, 1, 0, 1, 1), True),
+                                        ("at c l", ("1/2", 0, 1, 0, "-1/3", "7/9"), True),
+                                        ("at f l", (0, 0, 1, 0, 1, 1), False),
+                                        ("at c l", (0, 0, 1, 0, 1), False), ("at c l", (0, 0, 1, 0, 1, 1, 1), False),
+                                        ("at c l", (), False)):
             self.fails(rows, saying, hand_of(*numbers), wanted)
         hand = hand_of(0, 0, 1, 0, 1, 1)
         for at in range(6):
@@ -213,8 +223,10 @@ class Bounds(Found):
 
     def test_weights_of_sayings(self):
         rows = ["free a", "free b", "circle k a b", "round p k", "round q k"]
-        for saying, weight, wanted in (("ring p q b p", 12, True), ("ring p q p q", 16, False), ("alike p q p b", 12, True), ("alike p q p q", 16, False),
-                                       ("angle p b q p b q", 8, True), ("angle p q b p b q", 10, True), ("angle p q p p q p", 16, False)):
+        for saying, weight, wanted in (("ring p q b p", 12, True), ("ring p q p q", 16, False), ("alike p q p b", 12, True),
+                                       ("alike p q p q", 16, False),
+                                       ("angle p b q p b q", 8, True), ("angle p q b p b q", 10, True),
+                                       ("angle p q p p q p", 16, False)):
             self.assertEqual(weight_in(lines_as_sketch(*rows), tuple(saying.split(" "))), weight)
             self.whole(rows, saying, wanted)
         # Twelve by one unknown, by two and by three; eight by four.
@@ -224,12 +236,15 @@ class Bounds(Found):
         for wider, saying, weight, wanted in ((one, "angle u u u q a a", 13, False), (one, "angle u u u a a a", 12, True),
                                               (two, "angle p p r p p a", 13, False), (two, "angle p p a p p a", 12, True),
                                               (three, "angle q p a p q r", 13, False), (three, "angle q p a p q a", 12, True),
-                                              ([*rows, "free c"], "angle q p c c a c", 9, False), ([*rows, "free c"], "angle q p c c a a", 8, True)):
+                                              ([*rows, "free c"], "angle q p c c a c", 9, False),
+                                              ([*rows, "free c"], "angle q p c c a a", 8, True)):
             self.assertEqual(weight_in(lines_as_sketch(*wider), tuple(saying.split(" "))), weight)
             self.whole(wider, saying, wanted)
         four = ["free a", "free b", "circle k a b", "round p k", "round q k", "free c"]
-        for saying, weight, wanted in (("alike p a q a", 8, True), ("alike p q a b", 8, True), ("alike p q a c", 10, False), ("row p q c", 5, True),
-                                       ("angle p b q p b q", 8, True), ("angle p b q p c q", 10, False), ("ring p q b a", 8, True), ("ring p q b c", 10, False)):
+        for saying, weight, wanted in (("alike p a q a", 8, True), ("alike p q a b", 8, True), ("alike p q a c", 10, False),
+                                       ("row p q c", 5, True),
+                                       ("angle p b q p b q", 8, True), ("angle p b q p c q", 10, False),
+                                       ("ring p q b a", 8, True), ("ring p q b c", 10, False)):
             self.assertEqual(weight_in(lines_as_sketch(*four), tuple(saying.split(" "))), weight)
             self.whole(four, saying, wanted)
 
@@ -259,7 +274,8 @@ class ByChance(Found):
                 sketches.append((chance, sketch, list(sayings_of(sketch, chance))))
         for chance, sketch, sayings in sketches:
             for saying in sayings:
-                shown = [("fails", any_hand(chance, sum({"free": 2, "on": 1, "round": 1}.get(step[0], 0) for step in sketch))) for _ in range(2)]
+                shown = [("fails", any_hand(chance, sum({"free": 2, "on": 1, "round": 1}.get(step[0],
+                                                                                             0) for step in sketch))) for _ in range(2)]
                 if within_bounds_anew(sketch, saying):
                     try:
                         shown.append(ask(sketch, saying))

@@ -17,7 +17,7 @@ from tests.general_anew import (
     unknowns_of, worths,
 )
 from tests.helper import (
-    PATTERNS, SAYINGS, SKETCHES, any_sketch, hand_of, lines_as_sketch, sayings_of, sort_made,
+    PATTERNS, SAYINGS, any_sketch, hand_of, lines_as_sketch, sayings_of, sort_made,
 )
 
 TRIANGLE = ("free a", "free b", "free c", "line l a b", "line m b c", "line n c a")

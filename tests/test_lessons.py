@@ -17,7 +17,8 @@ TRIANGLE = lines_as_sketch("free a", "free b", "free c", "line l a b", "line m b
 MIDDLE = (TRIANGLE, (("alike", "x", "a", "x", "b"), ("row", "a", "x", "b")))
 OTHER_KINDS = (
     None, True, 0, "", "lesson", (), [], {}, (TRIANGLE,), (TRIANGLE, ()), (TRIANGLE, None), (TRIANGLE, "same a b"), Exact(1),
-    (None, (("same", "a", "b"),)), ((), ()), {0: TRIANGLE, 1: (("same", "a", "b"),)}, "free a", (1, 2), (TRIANGLE, (("same", "a", "b"),), ()),
+    (None, (("same", "a", "b"),)), ((), ()), {0: TRIANGLE, 1: (("same", "a", "b"),)}, "free a", (1, 2),
+    (TRIANGLE, (("same", "a", "b"),), ()),
 )
 
 
@@ -106,13 +107,16 @@ class IsLesson(Lessons):
             names = tuple("abcxyz"[:many])
             self.is_lesson((TRIANGLE, ((word, *names),)), True)
             for other in ((word, *names[1:]), (word, *names, "a"), (word,), word, [word, *names], (word, *names[1:], "l"),
-                          (word, "k", *names[1:]), (word, "", *names[1:]), (word, None, *names[1:]), (word + "s", *names), (None, *names)):
+                          (word, "k", *names[1:]), (word, "", *names[1:]), (word, None, *names[1:]), (word + "s", *names),
+                          (None, *names)):
                 self.is_lesson((TRIANGLE, (other,)), False)
                 self.is_lesson((TRIANGLE, ((word, *names), other)), False)
 
     def test_sorts_of_names(self):
-        for wish, wanted in ((("at", "a", "l"), True), (("at", "a", "k"), True), (("at", "x", "k"), True), (("at", "x", "y"), True),
-                             (("at", "a", "y"), True), (("at", "l", "a"), False), (("at", "a", "b"), False), (("at", "l", "k"), False),
+        for wish, wanted in ((("at", "a", "l"), True), (("at", "a", "k"), True), (("at", "x", "k"), True),
+                             (("at", "x", "y"), True),
+                             (("at", "a", "y"), True), (("at", "l", "a"), False), (("at", "a", "b"), False),
+                             (("at", "l", "k"), False),
                              (("same", "a", "l"), False), (("same", "x", "l"), False), (("unlike", "a", "b"), False),
                              (("at", "x", "x"), True), (("same", "x", "x"), True), (("row", "a", "a", "a"), True)):
             self.is_lesson((TRIANGLE, (wish,)), wanted)
@@ -122,7 +126,8 @@ class IsLesson(Lessons):
         self.is_lesson((TRIANGLE, (("same", "x", "a"), ("at", "l", "x"))), False)
 
     def test_names(self):
-        for name, wanted in (("abcdefgh", True), ("abcdefghi", False), ("a", True), ("", False), ("A", False), ("a1", False), ("x y", False),
+        for name, wanted in (("abcdefgh", True), ("abcdefghi", False), ("a", True), ("", False), ("A", False), ("a1", False),
+                             ("x y", False),
                              ("x\n", False), ("zz", True), (None, False), (1, False), (("x",), False)):
             self.is_lesson((TRIANGLE, (("same", name, "a"),)), wanted)
             self.is_lesson((TRIANGLE, (("at", "a", name),)), wanted if name != "a" else False)
@@ -172,23 +177,30 @@ class Judged(Lessons):
 
     def test_wrong(self):
         good, other = ("middle", "x", "a", "b"), ("foot", "y", "c", "l")
-        for wrong in (("middle", "a", "a", "b"), ("middle", "y", "a", "a"), ("middle", "y", "a", "z"), ("middle", "y", "a", "l"),
-                      ("middle", "y", "a"), ("middle", "y", "a", "b", "c"), ("halve", "y", "a", "b"), ("turn", "y", "a", "b", 4),
-                      ("turn", "y", "a", "b", True), ("free", "Y"), None, 3, "free y", ["free", "y"], (), ((),), ("free", ["y"]),
-                      ("free",), (None, "y"), {"free": "y"}, Exact(1), ("middle", "x", "a", "c"), ("other", "y", "m", "k", "c")):
+        for wrong in (("middle", "a", "a", "b"), ("middle", "y", "a", "a"), ("middle", "y", "a", "z"),
+                      ("middle", "y", "a", "l"),
+                      ("middle", "y", "a"), ("middle", "y", "a", "b", "c"), ("halve", "y", "a", "b"),
+                      ("turn", "y", "a", "b", 4),
+                      ("turn", "y", "a", "b", True), ("free", "Y"), None, 3, "free y", ["free", "y"], (), ((),),
+                      ("free", ["y"]),
+                      ("free",), (None, "y"), {"free": "y"}, Exact(1), ("middle", "x", "a", "c"),
+                      ("other", "y", "m", "k", "c")):
             self.judged(MIDDLE, (good, wrong), ("wrong", 1))
             self.judged(MIDDLE, (good, other, wrong, wrong), ("wrong", 2))
             if wrong != ("middle", "x", "a", "c"):
                 self.judged(MIDDLE, (wrong,), ("wrong", 0))
                 self.judged(MIDDLE, (wrong, good), ("wrong", 0))
         # The sketch's own steps stand ahead of the making's.
-        self.judged((TRIANGLE[:2], (("same", "a", "b"),)), (("line", "l", "a", "b"), ("on", "p", "m"), ("line", "m", "a", "b")), ("wrong", 1))
+        self.judged((TRIANGLE[:2], (("same", "a", "b"),)), (("line", "l", "a", "b"), ("on", "p", "m"),
+                                                            ("line", "m", "a", "b")), ("wrong", 1))
 
     def test_lacks(self):
-        for steps, name in (((), "x"), ((("middle", "y", "a", "b"),), "x"), ((("line", "x", "a", "c"),), "x"), ((("circle", "x", "a", "c"),), "x")):
+        for steps, name in (((), "x"), ((("middle", "y", "a", "b"),), "x"), ((("line", "x", "a", "c"),), "x"),
+                            ((("circle", "x", "a", "c"),), "x")):
             self.judged(MIDDLE, steps, ("lacks", name))
         wishes = (("at", "x", "y"), ("row", "z", "a", "w"))
-        for row, name in (((), "x"), (("free x",), "y"), (("free x", "free y"), "y"), (("line y a c",), "x"), (("free x", "line y a c"), "z"),
+        for row, name in (((), "x"), (("free x",), "y"), (("free x", "free y"), "y"), (("line y a c",), "x"),
+                          (("free x", "line y a c"), "z"),
                           (("free x", "circle y a c", "free z"), "w"), (("free x", "circle y a c", "free w"), "z"),
                           (("free x", "circle y a c", "free w", "line z w x"), "z")):
             self.judged((TRIANGLE, wishes), lines_as_sketch(*row), ("lacks", name))
@@ -219,7 +231,8 @@ class Judged(Lessons):
         self.assertEqual(told[2], first_breaking(whole, MIDDLE[1][0]))
         self.assertTrue(is_hand(whole, told[2]))
         self.assertIs(is_so(whole, told[2], MIDDLE[1][0]), False)
-        self.assertEqual(self.judged(MIDDLE, (("turn", "x", "a", "b", 1), ("middle", "y", "a", "b")), ("fails", 0))[:2], ("fails", 0))
+        self.assertEqual(self.judged(MIDDLE, (("turn", "x", "a", "b", 1), ("middle", "y", "a", "b")), ("fails", 0))[:2],
+                         ("fails", 0))
         self.judged((TRIANGLE, MIDDLE[1][::-1]), (("on", "x", "l"),), ("fails", 1))
         four = (("at", "a", "l"), ("at", "b", "l"), ("at", "b", "k"), ("at", "c", "l"))
         self.judged((TRIANGLE, four), (), ("fails", 3))

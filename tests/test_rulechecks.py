@@ -13,8 +13,10 @@ from tests.helper import SAYINGS, any_hand, chance_sketches, lines_as_sketch, sa
 from tests.rules_anew import made_rows, paper_holds_anew, told_anew
 
 MADE = lines_as_sketch(
-    "free a", "free b", "free c", "line l a b", "line m c b", "circle k a b", "on p l", "round q k", "foot f c l", "along n c l",
-    "upright u c l", "meet x l m", "other y l k b", "middle h a c", "turn t b a 1", "turn s b a 2", "turn r b a 3", "mirror w c l",
+    "free a", "free b", "free c", "line l a b", "line m c b", "circle k a b", "on p l", "round q k", "foot f c l",
+    "along n c l",
+    "upright u c l", "meet x l m", "other y l k b", "middle h a c", "turn t b a 1", "turn s b a 2", "turn r b a 3",
+    "mirror w c l",
     "cross z l k 0",
 )
 # What is made by the step of each number, by the words of point 16.
@@ -53,7 +55,8 @@ PAPERS = (
     (MADE, "at p l: made 6", "row p p p: rowed 0 0 0"),
     (CIRCLE, "at p k: made 3", "at q k: made 4", "at b k: made 2", "at r k: made 5", "ring r b p q: ringed 3 2 0 1"),
     (CIRCLE, "at p k: made 3", "at q k: made 4", "ring p q p p: ringed 0 1 0 0"),
-    (CIRCLE, "at p k: made 3", "at q k: made 4", "alike a p a b: round 2 0", "alike a q a b: round 2 1", "alike a b a q: turned 3",
+    (CIRCLE, "at p k: made 3", "at q k: made 4", "alike a p a b: round 2 0", "alike a q a b: round 2 1",
+     "alike a b a q: turned 3",
      "alike a p a q: linked 2 4"),
     (CIRCLE, "at b k: made 2", "alike a b a b: round 2 0", "alike a b a b: linked 1 1"),
     (HALVES, "along d e a b: halved 4 5", "along a b d e: turned 0", "unlike a b: made 7", "along d e d e: passed 0 1 2"),
@@ -161,8 +164,10 @@ class Checked(unittest.TestCase):
 class Made(Checked):
     def test_each_step(self):
         every = sorted({saying for sayings in MADE_ROWS.values() for saying in sayings})
-        others = ("at b n", "at w l", "at z l", "at z k", "at x k", "at p k", "unlike b a", "unlike a p", "row a b s", "row b s a",
-                  "row a s b", "alike a b a w", "alike h a h c", "upright a b a s", "row c h a", "row b a t", "at c l", "same a a",
+        others = ("at b n", "at w l", "at z l", "at z k", "at x k", "at p k", "unlike b a", "unlike a p", "row a b s",
+                  "row b s a",
+                  "row a s b", "alike a b a w", "alike h a h c", "upright a b a s", "row c h a", "row b a t", "at c l",
+                  "same a a",
                   "at a k", "unlike c a", "alike a t a b", "unlike a a")
         for number in range(len(MADE)):
             for said in (*every, *others):
@@ -227,7 +232,8 @@ class Rules(Checked):
     def test_all_rows_are_looked_at(self):
         # The rows behind which nothing goes back to them, too.
         good = row_of("at a l: made 3")
-        for bad in (row_of("at c l: made 3"), row_of("at a l: made 4"), row_of("unlike a c: made 3"), row_of("same a a: turned 0"),
+        for bad in (row_of("at c l: made 3"), row_of("at a l: made 4"), row_of("unlike a c: made 3"),
+                    row_of("same a a: turned 0"),
                     None, (), good[:2], (good[0], "make", (3,)), row_of("row a b p: rowed 0 0 0")):
             self.assertIs(self.holds(MADE, good[0], (good, good)), True)
             self.assertIs(self.holds(MADE, good[0], (bad, good)), False)
@@ -246,9 +252,11 @@ class Rules(Checked):
 
     def test_unlike_is_wanted(self):
         sketch = lines_as_sketch(*HALVES)
-        rows = ["along d e a b: halved 4 5", "along a b d e: turned 0", "unlike a b: made 7", "unlike b a: turned 2", "at a l: made 7"]
+        rows = ["along d e a b: halved 4 5", "along a b d e: turned 0", "unlike a b: made 7", "unlike b a: turned 2",
+                "at a l: made 7"]
         for last, wanted in (("passed 0 1 2", True), ("passed 0 1 3", False), ("passed 0 1", False), ("passed 0 1 4", False),
-                             ("passed 0 1 0", False), ("passed 1 0 2", False), ("passed 0 0 2", False), ("squared 0 1 2", False),
+                             ("passed 0 1 0", False), ("passed 1 0 2", False), ("passed 0 0 2", False),
+                             ("squared 0 1 2", False),
                              ("sided 0 1 2", False)):
             self.check(sketch, paper_in((*rows, f"along d e d e: {last}")), wanted)
         sketch = lines_as_sketch(*CIRCLE)
@@ -314,17 +322,24 @@ class Wanted(Checked):
     by the package, and held against the words of point 16."""
 
     RICH = (
-        ("free a", "free b", "free c", "free d", "line l a b", "line m a c", "line n b c", "line o a d", "along p d l", "along q c l", "upright r c l",
+        ("free a", "free b", "free c", "free d", "line l a b", "line m a c", "line n b c", "line o a d", "along p d l",
+         "along q c l", "upright r c l",
          "on e p", "on f l", "on g q"),
-        ("free a", "free b", "free c", "line l a b", "line m a c", "line n c b", "foot f c l", "foot g b m", "mirror w c l", "mirror v b m", "upright u b m",
+        ("free a", "free b", "free c", "line l a b", "line m a c", "line n c b", "foot f c l", "foot g b m", "mirror w c l",
+         "mirror v b m", "upright u b m",
          "upright r c l", "meet h u r"),
-        ("free a", "free b", "circle k a b", "round p k", "round q k", "round r k", "circle j p a", "line l b p", "line m p q", "line n b q", "line o q r",
+        ("free a", "free b", "circle k a b", "round p k", "round q k", "round r k", "circle j p a", "line l b p",
+         "line m p q", "line n b q", "line o q r",
          "other y l k b"),
-        ("free a", "free b", "free c", "middle m a b", "middle n a c", "middle o b c", "line l a b", "line k a c", "line j b c", "turn t b a 1",
+        ("free a", "free b", "free c", "middle m a b", "middle n a c", "middle o b c", "line l a b", "line k a c",
+         "line j b c", "turn t b a 1",
          "turn s b a 3", "turn r c a 1", "line i a t"),
-        ("free a", "free b", "turn c b a 1", "turn d b a 2", "turn e b a 3", "line l a b", "line m a c", "line n a d", "line o b c", "middle x b d", "circle k a b"),
-        ("free a", "free b", "middle m a b", "circle k m a", "round p k", "round q k", "line l a p", "line n a q", "line o p b", "turn r a m 1", "middle h a p"),
-        ("free o", "free a", "free b", "free c", "middle d o a", "middle e o b", "middle f o c", "line l a b", "line m b c", "line n a c", "foot g c l",
+        ("free a", "free b", "turn c b a 1", "turn d b a 2", "turn e b a 3", "line l a b", "line m a c", "line n a d",
+         "line o b c", "middle x b d", "circle k a b"),
+        ("free a", "free b", "middle m a b", "circle k m a", "round p k", "round q k", "line l a p", "line n a q",
+         "line o p b", "turn r a m 1", "middle h a p"),
+        ("free o", "free a", "free b", "free c", "middle d o a", "middle e o b", "middle f o c", "line l a b", "line m b c",
+         "line n a c", "foot g c l",
          "foot h a m"),
     )
 
@@ -365,7 +380,8 @@ class Wanted(Checked):
                 for saying, (_, steps, ahead) in chance.sample(ways, min(25, len(ways))):
                     self.check(sketch, self.put_together(known, saying, rule, steps, ahead), True)
                     for at, one in enumerate(ahead):
-                        for other in chance.sample(near := self.near(known, one), min(8, len(near))):
+                        near = self.near(known, one)
+                        for other in chance.sample(near, min(8, len(near))):
                             paper = self.put_together(known, saying, rule, steps, put(ahead, at, other))
                             names = [a == b for a, b in zip(one, other)]
                             key = rule, steps and sketch[steps[0]][0], at, names.index(False), self.check(sketch, paper)
@@ -427,7 +443,8 @@ class Things(Checked):
 
     def test_sixty_rows(self):
         sketch = lines_as_sketch(*CIRCLE)
-        rows = list(paper_in(("at p k: made 3", "at q k: made 4", "at b k: made 2", "at r k: made 5", "ring b p q r: ringed 2 0 1 3")))
+        rows = list(paper_in(("at p k: made 3", "at q k: made 4", "at b k: made 2", "at r k: made 5",
+                              "ring b p q r: ringed 2 0 1 3")))
         chance = random.Random(5)
         while len(rows) < 60:
             names = chance.sample("bpqr", 4)
@@ -445,7 +462,8 @@ class Soundness(Checked):
             rows = [(saying, "made", (number,)) for saying, number in made_rows(sketch)]
             for _ in range(400):
                 rule = chance.choice(RULES[1:])
-                for steps in ((), (chance.randrange(len(sketch) or 1),), tuple(chance.randrange(len(sketch) or 1) for _ in "ab")):
+                for steps in ((), (chance.randrange(len(sketch) or 1),),
+                              tuple(chance.randrange(len(sketch) or 1) for _ in "ab")):
                     for many in range(5):
                         places = tuple(chance.randrange(len(ahead) or 1) for _ in range(many))
                         for saying in told_anew(sketch, ahead, rule, steps + places)[:1]:

@@ -18,7 +18,8 @@ from tests.test_rulechecks import CIRCLE, FEET, HALVES, MADE, MIRROR, PAPERS, pa
 
 # Sayings that one row behind made ones tells, by the rule of this row, and how many rows the shortest such paper has.
 ONE_ROW = (
-    (MADE, "at a l", "made", 1), (MADE, "row a h c", "made", 1), (MADE, "alike a b a t", "made", 1), (MADE, "upright a b a r", "made", 1),
+    (MADE, "at a l", "made", 1), (MADE, "row a h c", "made", 1), (MADE, "alike a b a t", "made", 1),
+    (MADE, "upright a b a r", "made", 1),
     (MADE, "at x m", "made", 1), (CIRCLE, "alike a p a b", "round", 2), (CIRCLE, "alike a b a b", "round", 2),
     (("free a", "free b", "free c", "line l a b", "along n c l", "on p n", "on q l"), "along p c q b", "along", 5),
     (("free a", "free b", "free c", "line l a b", "along n c l", "on p n", "on q l"), "along p c b b", "along", 4),
@@ -105,7 +106,8 @@ class OneRow(Ruled):
                 self.assertIsNotNone(self.ask(sketch, saying, many + 1))
                 self.assertIsNotNone(self.ask(sketch, saying, ROWS))
                 met[told[-1][1]] = met.get(told[-1][1], 0) + 1
-        self.assertLessEqual({"made", "round", "along", "upright", "mirror", "turned", "rowed", "ringed", "linked", "squared", "bent",
+        self.assertLessEqual({"made", "round", "along", "upright", "mirror", "turned", "rowed", "ringed", "linked", "squared",
+                              "bent",
                               "halved", "between", "legs", "corners", "thales"}, set(met), met)
 
     def test_by_chance(self):
@@ -215,7 +217,8 @@ class Times(Ruled):
     def test_fourteen_steps(self):
         points = "cdefghijnpq"
         started = time.process_time()
-        for ahead, more in ((("free a", "free b", "circle k a b"), "round {} k"), (("free a", "free b", "line l a b"), "on {} l"),
+        for ahead, more in ((("free a", "free b", "circle k a b"), "round {} k"),
+                            (("free a", "free b", "line l a b"), "on {} l"),
                             (("free a", "free b", "line l a b"), "mirror {} a l")):
             rows = [*ahead, *[more.format(name) for name in points]]
             if more.startswith("mirror"):

@@ -73,7 +73,8 @@ def is_on(way, point):
 
 def ways_by_chance(first, last):
     """Sketches with a hand, the going one and each point that hangs on it."""
-    ahead = (lines_as_sketch(*CIRCLE), lines_as_sketch(*LINE), lines_as_sketch(*LINE[:3], "line l b c", "upright m a l", "on p m"),
+    ahead = (lines_as_sketch(*CIRCLE), lines_as_sketch(*LINE), lines_as_sketch(*LINE[:3], "line l b c", "upright m a l",
+                                                                               "on p m"),
              lines_as_sketch(*CIRCLE[:4], "line l b a", "other q l k b", "on r l", "round p k"),
              lines_as_sketch(*CIRCLE, "line l a b", "foot f p l", "turn t p a 2", "middle m p t"),
              lines_as_sketch(*LINE, "line m p c", "mirror q a m", "line n q p"))
@@ -154,7 +155,8 @@ class Known(Ways):
     def test_points_of_a_curve_by_its_line(self):
         # Through the point of number 1 each line of a quotient meets the circle once more, and this point has a number.
         sketch, hand = known(CIRCLE, (0, 0, 5, 0, 0, 0, 1))
-        for x, y, number in ((3, 4, "1/2"), (4, 3, "1/3"), (0, 5, 1), (-3, 4, 2), (-4, -3, -3), (5, 0, 0), (-5, 0, None), (0, -5, -1),
+        for x, y, number in ((3, 4, "1/2"), (4, 3, "1/3"), (0, 5, 1), (-3, 4, 2), (-4, -3, -3), (5, 0, 0), (-5, 0, None),
+                             (0, -5, -1),
                              (5, 5, None), ("1/2", 0, None), (0, 0, None)):
             self.assertEqual(self.at(sketch, hand, "p", "p", place(x, y)), None if number is None else exact(number))
         sketch, hand = known(PARABOLA, (0, 0, 1, 0, 0, 1, 3))
@@ -270,7 +272,8 @@ class Never(Ways):
         self.check(CIRCLE, ("1/2", 0, "1/2", 0, 0, 0, 1), "p", 3)
 
     def test_steps_behind_it(self):
-        rows = (*LINE, "along n c l", "on q n", "line m p c", "line o p q", "foot f c o", "meet x l n", "middle y x p", "circle k p a")
+        rows = (*LINE, "along n c l", "on q n", "line m p c", "line o p q", "foot f c o", "meet x l n", "middle y x p",
+                "circle k p a")
         # By some numbers p is c, q or a, and m, o, k can't be done; by none n and l meet, c being off l.
         self.check((*LINE, "line m p c", "foot f a m"), (0, 0, 1, 0, 2, 0, 1), "f", None)
         self.check(rows, (0, 0, 1, 0, 2, 1, 1, 3), "y", 10)
@@ -307,7 +310,8 @@ class Times(Ways):
     def test_fourteen_steps(self):
         started = time.process_time()
         heavy = (
-            (*LINE, "line m p c", "mirror q a m", "line n q p", "mirror r b n", "line o r q", "mirror s c o", "line i s r", "mirror t p i",
+            (*LINE, "line m p c", "mirror q a m", "line n q p", "mirror r b n", "line o r q", "mirror s c o", "line i s r",
+             "mirror t p i",
              "line j t s"),
             (*CIRCLE, "line m p c", "mirror q b m", "line n q p", "mirror r c n", "line o r b", "mirror s p o", "line i s c",
              "mirror t r i", "line j t s"),

@@ -43,17 +43,23 @@ ONE, TWO = (((0, 1), 2), ((1, 0), -3)), (((0, 0), 5),)
 HANDED = {
     "exacts": {"Exact": dict(top=1, bottom=2, sign=-1, over=5, under=3), "read_exact": dict(text="1/2+r5")},
     "plane": {
-        "line_through": dict(p=place(0, 1), q=place(3, 4)), "line_along": dict(p=place(0, 1), line=LINE), "line_upright": dict(p=place(0, 1), line=LINE),
-        "lines_meet": dict(one=LINE, other=OTHER), "middle_of": dict(p=place(0, 1), q=place(3, 4)), "foot_of": dict(p=place(0, 1), line=LINE),
-        "mirror_of": dict(p=place(0, 1), line=LINE), "turned": dict(p=place(0, 1), about=place(3, 4), many=3), "crossings": dict(line=LINE, circle=CIRCLE),
+        "line_through": dict(p=place(0, 1), q=place(3, 4)), "line_along": dict(p=place(0, 1), line=LINE),
+        "line_upright": dict(p=place(0, 1), line=LINE),
+        "lines_meet": dict(one=LINE, other=OTHER), "middle_of": dict(p=place(0, 1), q=place(3, 4)),
+        "foot_of": dict(p=place(0, 1), line=LINE),
+        "mirror_of": dict(p=place(0, 1), line=LINE), "turned": dict(p=place(0, 1), about=place(3, 4), many=3),
+        "crossings": dict(line=LINE, circle=CIRCLE),
     },
-    "steps": {"is_sketch": dict(thing=SKETCH), "hanging": dict(sketch=SKETCH, name="a"), "needed": dict(sketch=SKETCH, names=("p",))},
+    "steps": {"is_sketch": dict(thing=SKETCH), "hanging": dict(sketch=SKETCH, name="a"),
+              "needed": dict(sketch=SKETCH, names=("p",))},
     "sketchtexts": {"show_sketch": dict(sketch=SKETCH), "read_sketch": dict(text=show_sketch(SKETCH))},
     "weights": {"weight_of": dict(sketch=SKETCH, name="p"), "weight_in": dict(sketch=SKETCH, saying=SAYING)},
-    "drawing": {"numbers_for": dict(sketch=SKETCH), "is_hand": dict(sketch=SKETCH, thing=HAND), "drawn": dict(sketch=SKETCH, hand=HAND)},
+    "drawing": {"numbers_for": dict(sketch=SKETCH), "is_hand": dict(sketch=SKETCH, thing=HAND),
+                "drawn": dict(sketch=SKETCH, hand=HAND)},
     "boards": {"Board": dict(sketch=SKETCH, hand=HAND, way="near", choices=())},
     "sums": {
-        "is_sum": dict(many=2, thing=ONE), "added": dict(one=ONE, other=TWO), "lessened": dict(one=ONE, other=TWO), "times": dict(one=ONE, other=TWO),
+        "is_sum": dict(many=2, thing=ONE), "added": dict(one=ONE, other=TWO), "lessened": dict(one=ONE, other=TWO),
+        "times": dict(one=ONE, other=TWO),
         "worth_at": dict(one=ONE, numbers=(3, 4)),
     },
     "sayings": {
@@ -69,9 +75,11 @@ HANDED = {
         "way_of": dict(sketch=SKETCH, hand=HAND, going="p", name="p"),
         "going_at": dict(sketch=SKETCH, hand=HAND, going="p", name="p", point=place(4, 0)),
     },
-    "lessons": {"is_lesson": dict(thing=(SKETCH, (SAYING,))), "judged": dict(lesson=(SKETCH, (SAYING,)), steps=(("free", "z"),))},
+    "lessons": {"is_lesson": dict(thing=(SKETCH, (SAYING,))), "judged": dict(lesson=(SKETCH, (SAYING,)),
+                                                                             steps=(("free", "z"),))},
     "changes": {
-        "without": dict(sketch=SKETCH, name="c"), "renamed": dict(sketch=SKETCH, calls=(("a", "z"),)), "hand_without": dict(sketch=SKETCH, hand=HAND, name="c"),
+        "without": dict(sketch=SKETCH, name="c"), "renamed": dict(sketch=SKETCH, calls=(("a", "z"),)),
+        "hand_without": dict(sketch=SKETCH, hand=HAND, name="c"),
         "rows_without": dict(sketch=SKETCH, rows=ROWS, name="c"), "paper_without": dict(sketch=SKETCH, paper=PAPER, name="c"),
         "paper_renamed": dict(paper=PAPER, calls=(("a", "z"),)),
     },
@@ -80,18 +88,24 @@ HANDED = {
 }
 BY_NAMES_ALONE = ("sign", "over", "under", "way", "choices", "most")
 HANDED_TO_METHODS = {
-    ("exacts", "Exact"): (lambda: Exact(1, 2), dict(plus=dict(other=Exact(3)), minus=dict(other=Exact(3)), times=dict(other=Exact(3)), by=dict(other=Exact(3)),
+    ("exacts", "Exact"): (lambda: Exact(1, 2), dict(plus=dict(other=Exact(3)), minus=dict(other=Exact(3)),
+                                                    times=dict(other=Exact(3)), by=dict(other=Exact(3)),
                                                      sign_of={}, is_less=dict(other=Exact(3)), decimals=dict(places=3))),
-    ("boards", "Board"): (lambda: Board(SKETCH, HAND), dict(hand={}, things={}, choices={}, move=dict(hand=HAND[::-1]), back={}, copy={})),
+    ("boards", "Board"): (lambda: Board(SKETCH, HAND), dict(hand={}, things={}, choices={}, move=dict(hand=HAND[::-1]),
+                                                            back={}, copy={})),
     ("houses", "House"): (lambda: filled_house(), dict(
-        do=dict(deed=("claim", "s", SAYING)), titles=dict(by=lambda title, steps: -steps), sketch=dict(title="s"), hand=dict(title="s"), things=dict(title="s"),
+        do=dict(deed=("claim", "s", SAYING)), titles=dict(by=lambda title, steps: -steps), sketch=dict(title="s"),
+        hand=dict(title="s"), things=dict(title="s"),
         claims=dict(title="s"), lesson=dict(title="t"), has=dict(title="s"), log={})),
     ("desk", "Desk"): (lambda: Desk(), dict(say=dict(row="free a 1 2"))),
 }
 SPOILT = (
-    lines_as_sketch("free a", "free a"), lines_as_sketch("line l a b"), lines_as_sketch("free a", "free b", "line l a a"), (("free", "A"),), (("free",),),
-    (("free", "a", "b"),), (["free", "a"],), ("free a",), (None,), lines_as_sketch("free a", "free b", "turn t a b 4"), (("free", "abcdefghi"),),
-    lines_as_sketch("free a", "free b", "line l a b", "circle k a b", "cross x k l 0"), ((),), lines_as_sketch("free a", "on p a"),
+    lines_as_sketch("free a", "free a"), lines_as_sketch("line l a b"), lines_as_sketch("free a", "free b", "line l a a"),
+    (("free", "A"),), (("free",),),
+    (("free", "a", "b"),), (["free", "a"],), ("free a",), (None,), lines_as_sketch("free a", "free b", "turn t a b 4"),
+    (("free", "abcdefghi"),),
+    lines_as_sketch("free a", "free b", "line l a b", "circle k a b", "cross x k l 0"), ((),),
+    lines_as_sketch("free a", "on p a"),
     lines_as_sketch("free a", "free b", "line l a b", "circle k a b", "other o l k a"),
 )
 
@@ -151,8 +165,10 @@ class Arguments(unittest.TestCase):
         deep = ()
         for _ in range(29):
             deep = [deep]
-        for thing in (None, True, 0, "", (), [], {}, deep, Exact(1), "a" * 4000, 10 ** 59, {"a": [deep[0]]}, ((1, "a"), [None])):
-            for told in (is_sketch(thing), is_hand(SKETCH, thing), is_saying(SKETCH, thing), rows_hold(SKETCH, SAYING, thing), paper_holds(SKETCH, SAYING, thing),
+        for thing in (None, True, 0, "", (), [], {}, deep, Exact(1), "a" * 4000, 10 ** 59, {"a": [deep[0]]},
+                      ((1, "a"), [None])):
+            for told in (is_sketch(thing), is_hand(SKETCH, thing), is_saying(SKETCH, thing), rows_hold(SKETCH, SAYING, thing),
+                         paper_holds(SKETCH, SAYING, thing),
                          is_lesson(thing), finding_holds(thing)):
                 self.assertIs(told, thing == () and told)
                 self.assertIs(type(told), bool)
@@ -165,7 +181,8 @@ class Spoilt(unittest.TestCase):
             self.assertIs(is_sketch(sketch), False)
             self.assertIs(is_lesson((sketch, (saying,))), False)
             house = House()
-            for deed in (("sketch", "s", sketch, ()), ("lesson", "s", sketch, (saying,)), ("all", (("sketch", "s", sketch, ()),))):
+            for deed in (("sketch", "s", sketch, ()), ("lesson", "s", sketch, (saying,)),
+                         ("all", (("sketch", "s", sketch, ()),))):
                 with self.assertRaises(errors.NoDeed) as caught:
                     house.do(deed)
                 self.assertEqual(caught.exception.thing, deed)
@@ -313,7 +330,8 @@ class Promise(unittest.TestCase):
         for seed in range(720, 780):
             chance = random.Random(seed)
             sketch = any_sketch(chance, chance.randint(3, 10))
-            sayings = [saying for saying in sayings_of(sketch, chance) if in_bounds(sketch, saying)] if any(sort_made(step) == "point" for step in sketch) else []
+            sayings = [saying for saying in sayings_of(sketch, chance) if in_bounds(sketch,
+                                                                                    saying)] if any(sort_made(step) == "point" for step in sketch) else []
             for many in (1, 2):
                 wishes = tuple(chance.sample(sayings, min(many, len(sayings))))
                 if not wishes:
@@ -331,7 +349,8 @@ class Great(unittest.TestCase):
     def test_numbers_of_120_figures(self):
         started = time.process_time()
         top, bottom = 10 ** 119 + 7, 10 ** 119 + 9
-        one, other = Exact(top, bottom, sign=1, over=bottom, under=top), Exact(-bottom, top, sign=-1, over=4 * bottom, under=9 * top)
+        one, other = Exact(top, bottom, sign=1, over=bottom, under=top), Exact(-bottom, top, sign=-1, over=4 * bottom,
+                                                                               under=9 * top)
         self.assertEqual(one.plus(other).minus(other), one)
         self.assertEqual(one.times(other).by(other), one)
         p, q = (one, other), (Exact(top), Exact(bottom, top))
@@ -341,6 +360,25 @@ class Great(unittest.TestCase):
         self.assertIn(len(crossings((Exact(1), *plain[:2]), ((plain[0], plain[1]), Exact(top)))), (0, 2))
         self.assertEqual(read_exact(str(Exact(10 ** 59, 10 ** 59 + 1))), Exact(10 ** 59, 10 ** 59 + 1))
         self.assertLess(time.process_time() - started, 5)
+
+    def test_eighty_moves_and_back(self):
+        started = time.process_time()
+        sketch = lines_as_sketch("free o", "free p", "free a", "free b", "line l a b", "circle k o p", "cross x l k 0", "cross y l k 1",
+                                 "line m x o", "line n y o", "round q k", "line i q x", "foot f y i", "on g m")
+        chance = random.Random(80)
+        hands = [tuple(Exact(chance.randint(-999999, 999999), chance.randint(1, 999999)) for _ in range(10)) for _ in range(81)]
+        for way in ("signs", "near"):
+            board = Board(sketch, hands[0], way=way)
+            seen = []
+            for hand in hands[1:]:
+                seen.append((board.hand(), board.choices(), board.things()))
+                board.move(hand)
+            self.assertEqual(len(board), 80)
+            for told in reversed(seen):
+                board.back()
+                self.assertEqual((board.hand(), board.choices(), board.things()), told)
+            self.assertTrue(board == Board(sketch, hands[0], way=way))
+        self.assertLess(time.process_time() - started, 30)
 
     def test_fourteen_steps_and_six_figures(self):
         started = time.process_time()
