@@ -1,39 +1,59 @@
-"""Sums of powers of one unknown, reckoned modulo a great prime: tuples of the numbers of powers from 0 on, the last
-one not 0, () being nought. So their greatest powers are told where the numbers themselves would take too long."""
+"""Sums of powers of one unknown, by quotients: pairs (numbers, bottom), whole numbers of the powers from 0 on, the last
+one not 0, all of them by a bottom above 0. Nought has no numbers."""
 
-# Less one this is a power of two, so that no two squares but noughts come to nought together, as with all numbers.
-# It is far too great to go by chance into what hands lead to.
-PRIME = 170141183460469231731687303715884105727
+from itertools import zip_longest
+from math import lcm
 
-
-def residue(number):
-    """A number without a root, modulo the prime."""
-    return number.top * turned_over(number.bottom) % PRIME
+from pointhouse.wholes import greatest_shared
 
 
-def turned_over(number):
-    """1 by a number, modulo the prime, that isn't nought there."""
-    return pow(int(number), 170141183460469231731687303715884105725, 170141183460469231731687303715884105727)
+class PowerReckoner:
+    """Reckons with sums of powers of one unknown."""
+
+    def whole(self, number):
+        """This whole number as a sum."""
+        return trimmed([number]), 1
+
+    def added(self, one, other):
+        """One and the other together."""
+        return together(one, other, 1)
+
+    def lessened(self, one, other):
+        """One less the other."""
+        return together(one, other, -1)
+
+    def multiplied(self, one, other):
+        """One times the other."""
+        return product_of(one[0], other[0]), one[1] * other[1]
+
+    def is_nought(self, one):
+        """Whether it is nought."""
+        return one[0] == ()
+
+
+def sum_of_number(number):
+    """A number without a root as a sum."""
+    return trimmed([number.top]), number.bottom
 
 
 def trimmed(numbers):
-    """The sum of a list of numbers of powers, modulo the prime."""
-    rest = [number % PRIME for number in numbers]
+    """The numbers up to the last one that isn't 0."""
+    rest = list(numbers)
     while rest and rest[-1] == 0:
         rest.pop()
     return tuple(rest)
 
 
-def powers_added(one, other, many):
+def together(one, other, many):
     """One sum and another one so many times."""
-    size = max(len(one), len(other))
-    first = list(one) + [0] * (size - len(one))
-    second = list(other) + [0] * (size - len(other))
-    return trimmed([a + many * b for a, b in zip(first, second)])
+    bottom = lcm(one[1], other[1])
+    first = [number * (bottom // one[1]) for number in one[0]]
+    second = [number * (bottom // other[1]) * many for number in other[0]]
+    return trimmed([a + b for a, b in zip_longest(first, second, fillvalue=0)]), bottom
 
 
-def powers_times(one, other):
-    """One sum times another one."""
+def product_of(one, other):
+    """The numbers of a product, by those of both sums."""
     numbers = [0] * (len(one) + len(other))
     for at, a in enumerate(one):
         for to, b in enumerate(other):
@@ -41,53 +61,68 @@ def powers_times(one, other):
     return trimmed(numbers)
 
 
+def without_factor(sums):
+    """The sums, not all nought, as they are to one another, but of whole numbers and sharing no factor."""
+    cleared = without_bottoms(sums)
+    # A factor that is found and goes into all of them is the greatest one. Were it times K to go into all, too, what K
+    # comes to at the great number would go into that by which the factor was lightened, so it would be at most half the
+    # great number. But K's roots are roots of the sum with the least numbers, so each is less than 1 and the greatest
+    # of these, which is at most half the great number: K would come to more.
+    bits = 1 + least_bits(cleared)
+    while True:
+        factor = factor_at(cleared, bits)
+        parts = [parted(numbers, factor) for numbers in cleared]
+        if None not in parts:
+            return tuple([(numbers, 1) for numbers in parts])
+        bits = 2 * bits
+
+
+def without_bottoms(sums):
+    """The numbers of sums as they are to one another, whole and sharing no factor."""
+    whole = 1
+    for _, bottom in sums:
+        whole = lcm(whole, bottom)
+    cleared = [[number * (whole // bottom) for number in numbers] for numbers, bottom in sums]
+    shared = greatest_shared([number for numbers in cleared for number in numbers])
+    return [tuple([number // shared for number in numbers]) for numbers in cleared]
+
+
+def least_bits(cleared):
+    """Of each sum that isn't nought the bits of its greatest number: the least of these."""
+    return min([max([abs(number).bit_length() for number in numbers]) for numbers in cleared if numbers])
+
+
+def factor_at(cleared, bits):
+    """The sum that comes, at a great number, to what all these sums there share, each of its numbers at most half as
+    great, lightened; the great number is 2 taken so often."""
+    shared = greatest_shared([worth_at(numbers, bits) for numbers in cleared])
+    great = 1 << bits
+    numbers = []
+    while shared != 0:
+        number = shared & (great - 1)
+        if 2 * number > great:
+            number = number - great
+        numbers.append(number)
+        shared = (shared - number) >> bits
+    lightly = greatest_shared(numbers)
+    return tuple([one // lightly for one in numbers])
+
+
+def worth_at(numbers, bits):
+    """What a sum comes to at the number that is 2 taken so often."""
+    worth = 0
+    for number in reversed(numbers):
+        worth = (worth << bits) + number
+    return worth
+
+
 def parted(one, other):
-    """(quotient, rest) of one sum by another one that isn't nought."""
+    """The numbers, whole ones, of one sum by another one that isn't nought; None where there are none."""
     rest = list(one)
-    quotient = [0] * max(0, len(one) - len(other) + 1)
-    first = turned_over(other[-1])
+    quotient = [0] * (len(one) - len(other) + 1)
     for at in reversed(range(len(quotient))):
-        many = rest[at + len(other) - 1] * first % PRIME
+        many = rest[at + len(other) - 1] // other[-1]
         quotient[at] = many
-        for to, b in enumerate(other):
-            rest[at + to] = (rest[at + to] - many * b) % PRIME
-    return trimmed(quotient), trimmed(rest)
-
-
-def shared_factor(one, other):
-    """The greatest sum by which both sums can be parted."""
-    while other:
-        one, other = other, parted(one, other)[1]
-    return one
-
-
-def without_factor(thing):
-    """The sums of a thing without the factor that they share; not all are nought."""
-    shared = ()
-    for one in thing:
-        shared = shared_factor(one, shared)
-    return tuple([parted(one, shared)[0] for one in thing])
-
-
-class PowerReckoner:
-    """Reckons with sums of powers of one unknown, modulo the prime."""
-
-    def whole(self, number):
-        """This whole number as a sum."""
-        return trimmed([number])
-
-    def added(self, one, other):
-        """One and the other together."""
-        return powers_added(one, other, 1)
-
-    def lessened(self, one, other):
-        """One less the other."""
-        return powers_added(one, other, -1)
-
-    def multiplied(self, one, other):
-        """One times the other."""
-        return powers_times(one, other)
-
-    def is_nought(self, one):
-        """Whether it is nought."""
-        return one == ()
+        for to, number in enumerate(other):
+            rest[at + to] = rest[at + to] - many * number
+    return tuple(quotient) if trimmed(rest) == () else None

@@ -1,6 +1,8 @@
 """Whole numbers found by what they keep."""
 
-from math import gcd, lcm
+from math import lcm
+
+from pointhouse.wholes import greatest_shared
 
 
 def relation(rows):
@@ -37,9 +39,7 @@ def relation_by(solved, loose, many):
 
 def lightened(numbers):
     """The numbers by their greatest shared factor, the first that isn't 0 above 0."""
-    shared = 0
-    for number in numbers:
-        shared = gcd(shared, number)
+    shared = greatest_shared(numbers)
     if shared == 0:
         return numbers
     if [number for number in numbers if number != 0][0] < 0:

@@ -23,6 +23,14 @@ def lowest_terms(top, bottom):
     return top // shared, bottom // shared
 
 
+def greatest_shared(numbers):
+    """The greatest number that goes into all of these, 0 where all are 0."""
+    shared = 0
+    for number in numbers:
+        shared = gcd(shared, number)
+    return shared
+
+
 def is_square(number):
     """Whether a number from 0 on is the square of a whole number."""
     return isqrt(number) ** 2 == number

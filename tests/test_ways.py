@@ -110,6 +110,29 @@ class Ways(unittest.TestCase):
         self.assertEqual(things, ahead)
         return found[0]
 
+    def check_anew(self, sketch, hand, going, name, there, told):
+        """What is told of a way against its place, reckoned anew."""
+        wanted = way_anew(there)
+        if wanted[0] == "curve":
+            self.assertEqual((told[0], told[2]), ("curve", exacts(wanted[1])))
+            self.assertTrue(is_nought_along(there, told[1]))
+            self.assertEqual(primitive(told[1]), told[1])
+        elif wanted[0] == "more":
+            self.assertEqual(told, wanted)
+        else:
+            self.assertEqual(told, (wanted[0], *[exacts(part) for part in wanted[1:]]))
+        for number in (0, 1, -1, 2, -3, 5, 8, Fraction(1, 2), Fraction(-2, 3), Fraction(9, 7)):
+            point = place_drawn(sketch, hand, going, name, number)
+            if point is not None:
+                self.assertTrue(told[0] == "more" or is_on(told, point))
+                self.assertEqual(exacts(place_at(there, number)), point)
+            if told[0] in ("line", "curve") and place_at(there, number):
+                self.assertEqual(self.at(sketch, hand, going, name, exacts(place_at(there, number))), exact(number))
+            elif point is not None:
+                self.assertIsNone(self.at(sketch, hand, going, name, point))
+        if told[0] in ("line", "curve") and told[2] is not None:
+            self.assertIsNone(self.at(sketch, hand, going, name, told[2]))
+
 
 class Known(Ways):
     def test_each(self):
@@ -214,33 +237,11 @@ class ByChance(Ways):
                 word = next(step[0] for step in sketch if step[1] == name)
                 words.add((told[0], word))
                 met[told[0]] = met.get(told[0], 0) + 1
-                self.check(sketch, hand, going, name, made[name], told)
+                self.check_anew(sketch, hand, going, name, made[name], told)
         self.assertGreater(min(met[word] for word in ("rest", "line", "curve", "never")), 10, met)
         self.assertLessEqual({"fold", "more"}, set(met), met)
         points = {word for word in PATTERNS if sort_made((word,)) == "point"} - {"free", "cross"}
         self.assertEqual({word for _, word in words}, points)
-
-    def check(self, sketch, hand, going, name, there, told):
-        wanted = way_anew(there)
-        if wanted[0] == "curve":
-            self.assertEqual((told[0], told[2]), ("curve", exacts(wanted[1])))
-            self.assertTrue(is_nought_along(there, told[1]))
-            self.assertEqual(primitive(told[1]), told[1])
-        elif wanted[0] == "more":
-            self.assertEqual(told, wanted)
-        else:
-            self.assertEqual(told, (wanted[0], *[exacts(part) for part in wanted[1:]]))
-        for number in (0, 1, -1, 2, -3, 5, 8, Fraction(1, 2), Fraction(-2, 3), Fraction(9, 7)):
-            point = place_drawn(sketch, hand, going, name, number)
-            if point is not None:
-                self.assertTrue(told[0] == "more" or is_on(told, point))
-                self.assertEqual(exacts(place_at(there, number)), point)
-            if told[0] in ("line", "curve") and place_at(there, number):
-                self.assertEqual(self.at(sketch, hand, going, name, exacts(place_at(there, number))), exact(number))
-            elif point is not None:
-                self.assertIsNone(self.at(sketch, hand, going, name, point))
-        if told[0] in ("line", "curve") and told[2] is not None:
-            self.assertIsNone(self.at(sketch, hand, going, name, told[2]))
 
     def test_great_and_small_numbers(self):
         numbers = ("999999", "-999999/999998", "1/999999", "-999983/7", 0, "777777/999979", "123457/999983", "-1/999999")
@@ -255,7 +256,7 @@ class ByChance(Ways):
                 if never is not None:
                     self.assertEqual(told, ("never", never))
                 else:
-                    self.check(sketch, hand, going, name, made[name], told)
+                    self.check_anew(sketch, hand, going, name, made[name], told)
 
 
 class Never(Ways):

@@ -170,3 +170,66 @@ def way_anew(place):
 
 def exacts(numbers):
     return None if numbers is None else hand_of(*numbers)
+
+
+class Modulo:
+    """A number modulo a prime."""
+
+    m = 0
+
+    def __init__(self, number, prime):
+        self.number, self.prime = number % prime, prime
+
+    def of(self, other):
+        number = Fraction(other.number if isinstance(other, Modulo) else other)
+        return number.numerator * pow(number.denominator, -1, self.prime)
+
+    def __add__(self, other):
+        return Modulo(self.number + self.of(other), self.prime)
+
+    def __neg__(self):
+        return Modulo(-self.number, self.prime)
+
+    def __sub__(self, other):
+        return Modulo(self.number - self.of(other), self.prime)
+
+    def __mul__(self, other):
+        return Modulo(self.number * self.of(other), self.prime)
+
+    def __truediv__(self, other):
+        return Modulo(self.number * pow(self.of(other), -1, self.prime), self.prime)
+
+    def is_nought(self):
+        return self.number == 0
+
+
+def rank_of(rows, prime):
+    """How many rows, of numbers modulo a prime, aren't put together of others."""
+    rows, rank = [list(row) for row in rows], 0
+    for column in range(len(rows[0])):
+        lead = next((at for at in range(rank, len(rows)) if rows[at][column] % prime), None)
+        if lead is None:
+            continue
+        rows[rank], rows[lead] = rows[lead], rows[rank]
+        turned = pow(rows[rank][column], -1, prime)
+        for row in rows[rank + 1:]:
+            many = row[column] * turned % prime
+            for at in range(column, len(row)):
+                row[at] = (row[at] - many * rows[rank][at]) % prime
+        rank += 1
+    return rank
+
+
+def power_by_places(sketch, hand, going, name, most, chance, prime):
+    """The greatest power of a way, or most where it is more, by the places at numbers that hang on chance: the steps
+    from one place to another, by those of the numbers, are rows of which so many aren't put together of others."""
+    names = [step[1] for step in sketch]
+    (place,) = own_places(sketch)[names.index(going)]
+    numbers = [Modulo(number.top * pow(number.bottom, -1, prime), prime) for number in hand]
+    many, drawn = chance.randrange(prime), []
+    for number in [chance.randrange(prime) for _ in range(2 * most)]:
+        numbers[place] = Modulo(number, prime)
+        x, y = Drawer(sketch, numbers).made[name]
+        drawn.append((number, (x + y * many).number))
+    return rank_of([[(one - two) * pow(s - t, -1, prime) % prime for t, two in drawn[most:]]
+                    for s, one in drawn[:most]], prime)
